@@ -1,0 +1,1 @@
+"""What a sheet tells of the stamps that were pressed on it."""

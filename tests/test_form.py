@@ -1,0 +1,215 @@
+"""The form of the package: a part of the rules of shared/LANGUAGE.md that can be checked by reading."""
+
+import ast
+import builtins
+import re
+import unittest
+from pathlib import Path
+
+PACKAGE = Path(__file__).resolve().parent.parent / "stampsheets"
+
+BUILTINS = set("""len range enumerate zip min max sum abs sorted reversed int str bool list tuple dict set isinstance
+    repr any all divmod property staticmethod iter ValueError""".split())
+
+STATEMENTS = (
+    ast.Module, ast.FunctionDef, ast.ClassDef, ast.Assign, ast.AugAssign, ast.If, ast.While, ast.For, ast.Return,
+    ast.Break, ast.Continue, ast.Pass, ast.Raise, ast.Expr, ast.ImportFrom, ast.Yield, ast.YieldFrom,
+)
+
+METHODS_OF_VALUES = set("""append clear copy count endswith extend find get index insert isalnum isalpha isdigit
+    islower isspace isupper items join keys ljust lower lstrip partition pop remove replace reverse rfind rjust
+    rpartition rsplit rstrip setdefault split splitlines startswith strip update upper values zfill
+    bit_length""".split())
+
+DUNDERS = set("""__init__ __eq__ __len__ __iter__ __contains__ __or__ __and__ __invert__ __add__ __sub__ __mul__
+    __call__ __enter__ __exit__""".split())
+
+UNUSED_WORDS = """register mro elements open input law version_info with_traceback add_note attrgetter breakpoint
+    builtins compile copyright credits delattr dir eval exec exit gc getattr globals hasattr help id importlib license
+    locals methodcaller os quit setattr super type vars sys""".split()
+
+WORDS_IN_NO_STRING = """typing typing_extensions enum Enum IntEnum StrEnum Flag Generic Protocol ABC ABCMeta
+    namedtuple NamedTuple TypedDict TYPE_CHECKING abstractmethod dataclass overload contextmanager""".split()
+
+
+def files():
+    return sorted(PACKAGE.glob("*.py"))
+
+
+def trees():
+    return [(path, ast.parse(path.read_text(encoding="ascii"))) for path in files()]
+
+
+def bound_names(function):
+    """Return the parameters and local variables of a function, those of what is nested in it too."""
+    names = set()
+    for node in ast.walk(function):
+        if isinstance(node, ast.arg):
+            names.add(node.arg)
+        elif isinstance(node, ast.Name) and isinstance(node.ctx, ast.Store):
+            names.add(node.id)
+    return names
+
+
+def functions_in(tree):
+    return [node for node in ast.walk(tree) if isinstance(node, ast.FunctionDef)]
+
+
+def docstrings(tree):
+    found = []
+    for node in ast.walk(tree):
+        if isinstance(node, (ast.Module, ast.FunctionDef, ast.ClassDef)) and ast.get_docstring(node) is not None:
+            found.append(node.body[0].value)
+    return found
+
+
+class FormTest(unittest.TestCase):
+    def test_folder(self):
+        for path in PACKAGE.iterdir():
+            if path.name != "__pycache__":
+                self.assertRegex(path.name, r"\A[a-z_]+\.py\Z")
+                self.assertNotIn(path.stem, dir(builtins))
+        self.assertLessEqual(len(files()), 100)
+
+    def test_lines(self):
+        for path in files():
+            text = path.read_text(encoding="ascii")
+            self.assertRegex(text, r"\A[\n -~]*\Z", path.name)
+            lines = text.splitlines()
+            self.assertLessEqual(len(lines), 399, path.name)
+            self.assertLessEqual(max(len(line) for line in lines), 120, path.name)
+
+    def test_functions_are_short(self):
+        for path, tree in trees():
+            for function in functions_in(tree):
+                self.assertLessEqual(function.end_lineno - function.lineno + 1, 40, (path.name, function.name))
+
+    def test_statements_and_expressions(self):
+        for path, tree in trees():
+            for node in ast.walk(tree):
+                where = (path.name, getattr(node, "lineno", 0))
+                if isinstance(node, ast.stmt):
+                    self.assertIsInstance(node, STATEMENTS, where)
+                self.assertNotIsInstance(node, (ast.GeneratorExp, ast.SetComp, ast.Set, ast.JoinedStr, ast.Div,
+                                                ast.Starred, ast.NamedExpr, ast.Pow, ast.AnnAssign), where)
+                if isinstance(node, ast.Constant):
+                    self.assertIsInstance(node.value, (str, int, type(None)), where)
+                if isinstance(node, (ast.Is, ast.IsNot)):
+                    continue
+                if isinstance(node, ast.Compare):
+                    for sign, right in zip(node.ops, node.comparators):
+                        if isinstance(sign, (ast.Is, ast.IsNot)):
+                            self.assertIsInstance(right, ast.Constant, where)
+
+    def test_strings(self):
+        for path, tree in trees():
+            told = docstrings(tree)
+            for node in ast.walk(tree):
+                if isinstance(node, ast.Constant) and isinstance(node.value, str) and node not in told:
+                    self.assertNotIn("%", node.value, path.name)
+
+    def test_module_level(self):
+        for path, tree in trees():
+            names = []
+            for node in tree.body:
+                if isinstance(node, ast.Assign):
+                    self.assertEqual(len(node.targets), 1)
+                    names.append(node.targets[0].id)
+                elif isinstance(node, ast.ImportFrom):
+                    names.extend(alias.name for alias in node.names)
+                elif isinstance(node, (ast.FunctionDef, ast.ClassDef)):
+                    names.append(node.name)
+                else:
+                    self.assertIsInstance(node, ast.Expr, path.name)
+            self.assertEqual(len(names), len(set(names)), path.name)
+
+    def test_imports(self):
+        needed = {}
+        for path, tree in trees():
+            needed[path.stem] = []
+            used = {node.id for node in ast.walk(tree) if isinstance(node, ast.Name)}
+            for node in ast.walk(tree):
+                if isinstance(node, ast.ImportFrom):
+                    self.assertRegex(node.module, r"\Astampsheets\.[a-z]+\Z")
+                    stem = node.module.partition(".")[2]
+                    needed[path.stem].append(stem)
+                    defined = ast.parse((PACKAGE / (stem + ".py")).read_text())
+                    names = [getattr(one, "name", None) for one in defined.body]
+                    names += [one.targets[0].id for one in defined.body if isinstance(one, ast.Assign)]
+                    for alias in node.names:
+                        self.assertIsNone(alias.asname)
+                        self.assertIn(alias.name, names, path.name)
+                        self.assertIn(alias.name, used, path.name)
+        while needed:
+            last = [stem for stem, stems in needed.items() if not set(stems) & set(needed)]
+            self.assertTrue(last, needed)
+            for stem in last:
+                del needed[stem]
+
+    def test_names(self):
+        for path, tree in trees():
+            told = docstrings(tree)
+            taken = [alias.name for node in tree.body if isinstance(node, ast.ImportFrom) for alias in node.names]
+            taken += [node.name for node in tree.body if isinstance(node, (ast.ClassDef, ast.FunctionDef))]
+            for function in functions_in(tree):
+                for name in bound_names(function):
+                    where = (path.name, function.name, name)
+                    self.assertNotIn(name, dir(builtins), where)
+                    self.assertNotIn(name, taken, where)
+                    self.assertNotIn(name, UNUSED_WORDS, where)
+                if function.name.startswith("__"):
+                    self.assertIn(function.name, DUNDERS)
+                else:
+                    self.assertNotIn(function.name, dir(builtins))
+                    self.assertNotIn(function.name, UNUSED_WORDS)
+            for node in ast.walk(tree):
+                if isinstance(node, ast.Name) and isinstance(node.ctx, ast.Load) and hasattr(builtins, node.id):
+                    self.assertIn(node.id, BUILTINS, (path.name, node.lineno))
+                if isinstance(node, ast.Constant) and isinstance(node.value, str) and node not in told:
+                    for word in re.findall(r"\w+", node.value):
+                        self.assertNotIn(word, WORDS_IN_NO_STRING, path.name)
+
+    def test_decorators_and_defaults(self):
+        for path, tree in trees():
+            for node in ast.walk(tree):
+                if isinstance(node, (ast.FunctionDef, ast.ClassDef)):
+                    for decorator in node.decorator_list:
+                        self.assertIsInstance(decorator, ast.Name)
+                        self.assertIn(decorator.id, ("property", "staticmethod"), path.name)
+                if isinstance(node, ast.arguments):
+                    for default in node.defaults + [one for one in node.kw_defaults if one is not None]:
+                        self.assertIsInstance(default, ast.Constant)
+                    self.assertIsNone(node.vararg)
+                    self.assertIsNone(node.kwarg)
+
+    def test_methods_that_are_called(self):
+        own = {function.name for _, tree in trees() for function in functions_in(tree)}
+        for path, tree in trees():
+            for node in ast.walk(tree):
+                if isinstance(node, ast.Call) and isinstance(node.func, ast.Attribute):
+                    self.assertIn(node.func.attr, METHODS_OF_VALUES | own, (path.name, node.lineno))
+
+    def test_what_makes_an_iterator_is_iterated_at_once(self):
+        for path, tree in trees():
+            generators = {f.name for _, t in trees() for f in functions_in(t) if self.yields(f)}
+            held = [node for node in ast.walk(tree) if isinstance(node, (ast.Assign, ast.Return))]
+            for node in held:
+                call = node.value
+                if isinstance(call, ast.Call):
+                    name = getattr(call.func, "id", getattr(call.func, "attr", None))
+                    self.assertNotIn(name, {"zip", "enumerate", "reversed", "items", "keys", "values", "map"})
+                    self.assertNotIn(name, generators, (path.name, node.lineno))
+
+    def yields(self, function):
+        return any(isinstance(node, (ast.Yield, ast.YieldFrom)) for node in ast.walk(function))
+
+    def test_no_name_is_a_method_and_an_attribute(self):
+        methods, attributes = set(), set()
+        for _, tree in trees():
+            for node in ast.walk(tree):
+                if isinstance(node, ast.ClassDef):
+                    methods |= {one.name for one in node.body if isinstance(one, ast.FunctionDef)}
+                if isinstance(node, ast.Attribute) and isinstance(node.ctx, ast.Store):
+                    attributes.add(node.attr)
+        self.assertEqual(methods & attributes, set())
+        self.assertEqual(attributes & (METHODS_OF_VALUES - {"count", "index"}), set())
