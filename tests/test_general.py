@@ -5,7 +5,14 @@ import importlib
 import inspect
 import unittest
 
+from stampsheets.claims import Claim
+from stampsheets.makings import making
+from stampsheets.orders import all_orders
+from stampsheets.peels import peeling
+from stampsheets.rowlists import rows_with
 from stampsheets.stocks import Stock
+from stampsheets.trails import Trail
+from stampsheets.verdicts import verdict
 
 # Every name of the interface that has landed, under its file, with its arguments.
 FUNCTIONS = {
@@ -21,6 +28,21 @@ FUNCTIONS = {
     "shortest": "distance(stock,start,seen) shortest_row(stock,start,seen) shortest_count(stock,start,seen)",
     "reaching": "first_stuck(stock,marks)",
     "trails": "keeps(trail,start,row)",
+    "sources": "trail_sources(trail) is_source_table(trail,table)",
+    "trailing": "trail_history(trail) possible_marks(trail,index,cell) sure_marks(trail,index)",
+    "beneath": """marks_beneath(stock,start,seen,cell) beneath_history(stock,start,seen,cell,mark)
+        may_be_bare(stock,start,seen,cell) possible_tops(stock,start,seen,cell) sure_top(stock,start,seen,cell)""",
+    "marks": "first_mark(claim) next_mark(claim,mark,name) mark_holds(claim,mark) holds(claim,row)",
+    "standings": "standing_moves(claim,standing) reached_standings(seen,claim)",
+    "verdicts": """verdict(start,seen,claim,*,supposed=None)
+        is_verdict_table(start,seen,claim,word,table,*,supposed=None)""",
+    "rowlists": """rows_with(start,seen,claim,*,longest) row_count(start,seen,claim,length)
+        least_row(start,seen,claim)""",
+    "commons": "sure_uses(stock,start,seen) possible_uses(stock,start,seen) sure_pairs(stock,start,seen)",
+    "implying": "implies(start,seen,one,two) same_claims(one,two)",
+    "orders": "all_orders(stock,start,seen) order_count(stock,start,seen)",
+    "topsets": """top_sets(stock,seen) is_top_set(stock,seen,names) arranged(stock,seen,names)
+        greatest_top_set(stock,seen) stuck_names(stock,seen) least_top_sets(stock,seen,name)""",
 }
 
 METHODS = {
@@ -31,14 +53,21 @@ METHODS = {
     ("makings", "Making"): "",
     ("trails", "Trail"): """__init__(self,stock,steps) with_look(self,index,layer) __len__(self) __iter__(self)
         __eq__(self,other) __add__(self,other)""",
+    ("claims", "Claim"): """of(stock,atom) __and__(self,other) __or__(self,other) __invert__(self)
+        __eq__(self,other)""",
+    ("verdicts", "Verdict"): "",
 }
 
-PROPERTIES = [("stocks", "Stock", "names")]
+PROPERTIES = [("stocks", "Stock", "names"), ("claims", "Claim", "atoms")]
 
 
 def written(name, function):
     text = str(inspect.signature(function)).replace(" ", "")
     return name + text
+
+
+def plain_function(method):
+    return method.__func__ if isinstance(method, staticmethod) else method
 
 
 class InterfaceTest(unittest.TestCase):
@@ -59,7 +88,7 @@ class InterfaceTest(unittest.TestCase):
             for signature in listed.split():
                 name = signature.partition("(")[0]
                 self.assertIn(name, vars(owner))
-                self.assertEqual(written(name, inspect.unwrap(vars(owner)[name])), signature)
+                self.assertEqual(written(name, plain_function(vars(owner)[name])), signature)
         for file, kind, name in PROPERTIES:
             owner = getattr(importlib.import_module("stampsheets." + file), kind)
             self.assertIsInstance(vars(owner)[name], property)
@@ -70,6 +99,9 @@ class InterfaceTest(unittest.TestCase):
 
 
 STOCK = Stock(2, [["x", "a-"], ["y", "-b"], ["z", "a-"]])
+TRAIL = Trail(STOCK, [["rows", ["x", "z"]], ["look", "ab"]])
+CLAIM = Claim.of(STOCK, ["used", "y", 1])
+OTHER = Claim.of(STOCK, ["ends", "x"])
 
 # Calls with lists in the place of tuples; each is asked twice and must leave its arguments alone.
 CALLS = [
@@ -95,7 +127,42 @@ CALLS = [
     ("shortest", "shortest_row", [STOCK, "..", "ab"]),
     ("shortest", "shortest_count", [STOCK, "..", "ab"]),
     ("reaching", "first_stuck", [STOCK, "ab"]),
+    ("trails", "keeps", [TRAIL, "..", ["x"]]),
+    ("sources", "trail_sources", [TRAIL]),
+    ("sources", "is_source_table", [TRAIL, [["-b"], ["ab"], ["--"]]]),
+    ("trailing", "trail_history", [TRAIL]),
+    ("trailing", "possible_marks", [TRAIL, 0, 0]),
+    ("trailing", "sure_marks", [TRAIL, 1]),
+    ("beneath", "marks_beneath", [STOCK, "..", "ab", 0]),
+    ("beneath", "beneath_history", [STOCK, "..", "ab", 0, "a"]),
+    ("beneath", "may_be_bare", [STOCK, "..", "ab", 0]),
+    ("beneath", "possible_tops", [STOCK, "..", "ab", 0]),
+    ("beneath", "sure_top", [STOCK, "..", "ab", 1]),
+    ("marks", "first_mark", [CLAIM]),
+    ("marks", "next_mark", [CLAIM, [0], "y"]),
+    ("marks", "mark_holds", [CLAIM, [1]]),
+    ("marks", "holds", [CLAIM, ["x", "y"]]),
+    ("standings", "standing_moves", [CLAIM, ["ab", [0]]]),
+    ("standings", "reached_standings", ["ab", CLAIM]),
+    ("verdicts", "is_verdict_table", ["..", "qq", CLAIM, "none", [["qq", [0]]]]),
+    ("rowlists", "row_count", ["..", "ab", CLAIM, 4]),
+    ("rowlists", "least_row", ["..", "ab", CLAIM]),
+    ("commons", "sure_uses", [STOCK, "..", "ab"]),
+    ("commons", "possible_uses", [STOCK, "..", "ab"]),
+    ("commons", "sure_pairs", [STOCK, "..", "ab"]),
+    ("implying", "implies", ["..", "ab", CLAIM, OTHER]),
+    ("implying", "same_claims", [CLAIM, OTHER]),
+    ("orders", "order_count", [STOCK, "..", "ab"]),
+    ("topsets", "top_sets", [STOCK, "ab"]),
+    ("topsets", "is_top_set", [STOCK, "ab", ["y", "x", "x"]]),
+    ("topsets", "arranged", [STOCK, "ab", ["y", "x", "x"]]),
+    ("topsets", "greatest_top_set", [STOCK, "ab"]),
+    ("topsets", "stuck_names", [STOCK, "ab"]),
+    ("topsets", "least_top_sets", [STOCK, "ab", "x"]),
 ]
+
+
+SAY_TRUE_OR_FALSE = ("keeps", "may_be_bare", "mark_holds", "holds", "implies")
 
 
 def has_lists(value):
@@ -119,17 +186,21 @@ class SequencesTest(unittest.TestCase):
             self.assertEqual(function(*arguments), answer, name)
             if name != "is_layer":
                 self.assertEqual(function(*in_tuples(arguments)), answer, name)
-            if name.startswith("is_"):
+            if name.startswith("is_") or name in SAY_TRUE_OR_FALSE:
                 self.assertIn(answer, [True, False])
                 self.assertIsInstance(answer, bool)
 
     def test_fields_are_tuples(self):
-        from stampsheets.makings import making
-        from stampsheets.peels import peeling
-        from stampsheets.trails import Trail
         made, refused = making(STOCK, "..", "ab"), making(STOCK, "..", "cc")
         end = peeling(STOCK, "ab")
-        trail = Trail(STOCK, [["rows", ["x"]], ["look", "--"]])
-        for value in [STOCK.stamps, STOCK.names, end.order, made.row, made.cells, refused.cells, trail.steps]:
+        told, unsure = verdict("..", "qq", CLAIM), verdict("..", "ab", OTHER)
+        for value in [
+            STOCK.stamps, STOCK.names, end.order, made.row, made.cells, refused.cells, TRAIL.steps, CLAIM.tree,
+            CLAIM.atoms, told.table, unsure.table, unsure.keeping, unsure.breaking,
+        ]:
             self.assertIsInstance(value, tuple)
             self.assertFalse(has_lists(value))
+
+    def test_items_of_generators_are_tuples(self):
+        for item in list(rows_with("..", "ab", CLAIM, longest=3)) + list(all_orders(STOCK, "..", "ab")):
+            self.assertIsInstance(item, tuple)
