@@ -1,18 +1,22 @@
 """The sources of a trail: the least that must be on a sheet before each step."""
 
-from stampsheets.layers import agree, cells_of, empty_layer, joined, within
+from stampsheets.layers import agree, empty_layer, joined, layer_order, within
 from stampsheets.peels import on_top, peeled, peeling
-from stampsheets.tupling import as_tuples
+
+
+def holds_one_within(layers, layer):
+    """Return True if one of the layers is within the layer."""
+    return any([within(one, layer) for one in layers])
 
 
 def least_layers(layers):
     """Return those layers that have no other one within themselves, each once, in order."""
     least = []
-    for layer in sorted(sorted(layers), key=lambda each: len(cells_of(each))):
-        # A layer with fewer marks is never spoilt by one with more.
-        if not any([within(other, layer) for other in least]):
+    # In the order of layers, what is within a layer comes before it.
+    for layer in sorted(layers, key=layer_order):
+        if not holds_one_within(least, layer):
             least.append(layer)
-    return tuple(sorted(least))
+    return tuple(least)
 
 
 def layers_before(stock, step, behind):
@@ -41,11 +45,6 @@ def trail_sources(trail):
     return tuple(found[::-1])
 
 
-def holds_one_within(layers, layer):
-    """Return True if one of the layers is within the layer."""
-    return any([within(one, layer) for one in layers])
-
-
 def step_is_held(stock, step, before, behind):
     """Return True if the layers before a step hold all that may start from those behind it."""
     word, told = step
@@ -58,10 +57,9 @@ def step_is_held(stock, step, before, behind):
 
 def is_source_table(trail, table):
     """Return True if the table holds all starts of the trail, otherwise False."""
-    items = as_tuples(table)
-    if empty_layer(trail.stock.size) not in items[-1]:
+    if empty_layer(trail.stock.size) not in table[-1]:
         return False
     return all([
-        step_is_held(trail.stock, step, items[index], items[index + 1])
+        step_is_held(trail.stock, step, table[index], table[index + 1])
         for index, step in enumerate(trail.steps)
     ])

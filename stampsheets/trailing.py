@@ -54,35 +54,28 @@ def may_bear(trail, index, behind, cell, mark):
     return len(layers) > 0
 
 
-def like_marks(trail, cell):
-    """Return all marks in groups such that the trail treats those of a group alike at the cell."""
+def marks_told(trail, cell):
+    """Return the marks that a stamp or a look of the trail has at the cell."""
     layers = [told for word, told in trail.steps if word == "look"]
     layers = layers + [stamp for name, stamp in trail.stock]
-    told_here = [layer[cell] for layer in layers]
-    others = [mark for mark in MARKS if mark not in told_here]
-    groups = [[mark] for mark in MARKS if mark in told_here]
-    return [others] + groups if others else groups
+    signs = [layer[cell] for layer in layers]
+    return [mark for mark in MARKS if mark in signs]
+
+
+def marks_before(trail, index, behind, cell):
+    """Return the marks that the cell may bear just before the step that has these sources."""
+    told = marks_told(trail, cell)
+    others = [mark for mark in MARKS if mark not in told]
+    # A mark that nothing tells of can only have been there from the start, unseen
+    # by all looks; then every other mark can have been there, too.
+    if others and may_bear(trail, index, behind, cell, others[0]):
+        return tuple(MARKS)
+    return tuple([mark for mark in told if may_bear(trail, index, behind, cell, mark)])
 
 
 def possible_marks(trail, index, cell):
     """Return all marks that the sheet may bear at the cell just before step number `index`."""
-    behind = trail_sources(trail)[index]
-    possible = []
-    for group in like_marks(trail, cell):
-        if may_bear(trail, index, behind, cell, group[0]):
-            possible.extend(group)
-    return tuple([mark for mark in MARKS if mark in possible])
-
-
-def sure_mark(trail, index, behind, cell):
-    """Return the only mark that is possible at the cell, or a dash if there are several."""
-    sure = DASH
-    for group in like_marks(trail, cell):
-        if may_bear(trail, index, behind, cell, group[0]):
-            if sure != DASH or len(group) > 1:
-                return DASH
-            sure = group[0]
-    return sure
+    return marks_before(trail, index, trail_sources(trail)[index], cell)
 
 
 def sure_marks(trail, index):
@@ -90,5 +83,8 @@ def sure_marks(trail, index):
     sources = trail_sources(trail)
     if len(sources[0]) == 0:
         return None
-    behind = sources[index]
-    return "".join([sure_mark(trail, index, behind, cell) for cell in range(trail.stock.size)])
+    signs = []
+    for cell in range(trail.stock.size):
+        marks = marks_before(trail, index, sources[index], cell)
+        signs.append(marks[0] if len(marks) == 1 else DASH)
+    return "".join(signs)

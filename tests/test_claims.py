@@ -24,7 +24,7 @@ BAD = [
     ("next", "x"), ("next", None, "x"), ("next", "x", None), ("next", "x", "x", "x"), ("ends",), ("ends", None),
     ("ends", "x", "x"), ("begins", None), ("begins",), ("top", 3, "x"), ("top", -1, "x"), ("top", True, "x"),
     ("top", None, "x"), ("top", "0", "x"), ("top", 0), ("top", 0, "x", "x"), ("top", [], None), ("top",),
-    ("over", "q", "q"), ("rest", "x", 2.0, 0), ("rest", "x", 10 ** 30, 0),
+    ("tap", 0, "x"), ("tops", 0, None), ("bottom", "x"), ("under", "x", "y"), ("over", "q", "q"), ("rest", "x", 2.0, 0), ("rest", "x", 10 ** 30, 0),
 ]
 
 

@@ -31,6 +31,12 @@ class HistoryTest(unittest.TestCase):
         self.assertIsNone(trail_history(Trail(STOCK, [("rows", ("x",)), ("look", "q-"), ("rows", ()), ("look", "a-")])))
         self.assertEqual(trail_history(Trail(Stock(1, ()), [("rows", ())])), (".", ()))
 
+    def test_many_sheets(self):
+        names = [f"n{k}" for k in range(8)]
+        stock = Stock(8, [(name, "-" * k + "a" + "-" * (7 - k)) for k, name in enumerate(names)])
+        trail = Trail(stock, [("look", "b" * 8), ("rows", names), ("look", "a" * 8), ("press", names)])
+        self.assertEqual(trail_history(trail), ("b" * 8, tuple(names) + ("n0",)))
+
     def test_first_of_the_sources(self):
         trail = Trail(STOCK, [("press", ("x", "y")), ("look", "ab")])
         self.assertEqual(trail_sources(trail)[0], ("-b", "a-"))
@@ -108,6 +114,12 @@ class MarksTest(unittest.TestCase):
         trail = Trail(stock, [("press", stock.names), ("look", "-")])
         self.assertEqual(possible_marks(trail, 1, 0), tuple(MARKS[:24]))
         self.assertEqual(possible_marks(trail, 0, 0), tuple(MARKS))
+
+    def test_a_cell_of_which_every_mark_is_told(self):
+        stock = Stock(1, [("m" + str(k), mark) for k, mark in enumerate(MARKS[:24])])
+        looks = [("look", mark) for mark in MARKS[24:]]
+        self.assertEqual(possible_marks(Trail(stock, looks), 1, 0), ())
+        self.assertIsNone(sure_marks(Trail(stock, looks), 1))
 
     def test_against_all_histories(self):
         for seed in range(60):
