@@ -31,7 +31,7 @@ def first_keeping_row(trail, start):
     level = [((), start, places)]
     while level:
         further = []
-        for row, sheet, at in level:
+        for row, sheet, at in list(level):
             for name in trail.stock.names:
                 after = press(sheet, trail.stock.stamp(name))
                 reached = settled(trail, after, moved_on(trail, name, at))

@@ -21,6 +21,8 @@ METHODS_OF_VALUES = set("""append clear copy count endswith extend find get inde
     rpartition rsplit rstrip setdefault split splitlines startswith strip update upper values zfill
     bit_length""".split())
 
+CHANGES = "append clear extend insert pop remove reverse setdefault sort update add discard".split()
+
 DUNDERS = set("""__init__ __eq__ __len__ __iter__ __contains__ __or__ __and__ __invert__ __add__ __sub__ __mul__
     __call__ __enter__ __exit__""".split())
 
@@ -61,6 +63,65 @@ def docstrings(tree):
         if isinstance(node, (ast.Module, ast.FunctionDef, ast.ClassDef)) and ast.get_docstring(node) is not None:
             found.append(node.body[0].value)
     return found
+
+
+def leaf_names(node):
+    """Return the names that a value may be, also through a choice or a call that only passes it on."""
+    if isinstance(node, ast.Name):
+        return {node.id}
+    if isinstance(node, ast.Attribute):
+        return {node.attr}
+    if isinstance(node, ast.IfExp):
+        return leaf_names(node.body) | leaf_names(node.orelse)
+    if isinstance(node, ast.BoolOp):
+        return set().union(*[leaf_names(value) for value in node.values])
+    if isinstance(node, ast.Call):
+        if isinstance(node.func, ast.Name) and node.func.id in ("enumerate", "zip", "reversed", "iter"):
+            return set().union(set(), *[leaf_names(one) for one in node.args])
+        if isinstance(node.func, ast.Attribute) and node.func.attr in ("items", "keys", "values"):
+            return leaf_names(node.func.value)
+    return set()
+
+
+def other_names(function, names):
+    """Return these names and all that plain assignments of the function make names of the same value."""
+    couples = []
+    for node in ast.walk(function):
+        if isinstance(node, ast.Assign):
+            for target in node.targets:
+                if isinstance(target, (ast.Name, ast.Attribute)):
+                    couples.extend((a, b) for a in leaf_names(target) for b in leaf_names(node.value))
+    names = set(names)
+    for _ in couples:
+        for couple in couples:
+            if names & set(couple):
+                names |= set(couple)
+    return names
+
+
+def changed_names(nodes):
+    """Return the names of what is changed in these nodes, not only given another value."""
+    found = set()
+    for top in nodes:
+        for node in ast.walk(top):
+            if isinstance(node, ast.Call) and isinstance(node.func, ast.Attribute) and node.func.attr in CHANGES:
+                found |= leaf_names(node.func.value)
+            if isinstance(node, ast.Subscript) and isinstance(node.ctx, (ast.Store, ast.Del)):
+                found |= leaf_names(node.value)
+            if isinstance(node, ast.AugAssign):
+                found |= leaf_names(node.target)
+    return found
+
+
+def loops_that_change(tree):
+    """Return the lines of the loops that change what they walk, by any of its names (L23)."""
+    lines = []
+    for function in functions_in(tree):
+        for node in ast.walk(function):
+            if isinstance(node, ast.For):
+                if other_names(function, leaf_names(node.iter)) & changed_names(node.body):
+                    lines.append(node.lineno)
+    return lines
 
 
 class FormTest(unittest.TestCase):
@@ -107,6 +168,24 @@ class FormTest(unittest.TestCase):
             for node in ast.walk(tree):
                 if isinstance(node, ast.Constant) and isinstance(node.value, str) and node not in told:
                     self.assertNotIn("%", node.value, path.name)
+
+    def test_what_a_loop_walks_is_not_changed_in_it(self):
+        for path, tree in trees():
+            self.assertEqual(loops_that_change(tree), [], path.name)
+
+    def test_loops_that_change_what_they_walk_are_found(self):
+        loop = "def f(xs, y):\n    rows = [1]\n    more = []\n    for x in {}:\n        {}\n{}"
+        for walked, change, behind in [
+            ("rows", "rows.append(x)", ""), ("rows", "more.append(x)", "    rows = more"),
+            ("enumerate(rows)", "rows[0] = x", ""), ("y.rows", "y.rows.pop()", ""),
+            ("rows if y else more", "more += [x]", ""), ("y.items()", "del y[x]", ""),
+        ]:
+            self.assertEqual(loops_that_change(ast.parse(loop.format(walked, change, behind))), [4], walked)
+        for walked, change, behind in [
+            ("list(rows)", "rows.append(x)", ""), ("rows", "more.append(x)", "    rows = list(more)"),
+            ("range(len(rows))", "rows[x] = 0", ""),
+        ]:
+            self.assertEqual(loops_that_change(ast.parse(loop.format(walked, change, behind))), [], walked)
 
     def test_module_level(self):
         for path, tree in trees():
