@@ -43,6 +43,12 @@ def checked_names(stock, names):
     return tuple(names)
 
 
+def check_sizes(one, two):
+    """Raise an error if the stocks have different sizes."""
+    if one.size != two.size:
+        raise SizesDiffer(one.size, two.size)
+
+
 def in_stock_order(stock, names):
     """Return the set of these names of the stock: each once, in the order of the stock."""
     return tuple([name for name in stock.names if name in names])
@@ -76,8 +82,7 @@ class Stock:
         return isinstance(other, Stock) and self.size == other.size and self.stamps == other.stamps
 
     def __or__(self, other):
-        if self.size != other.size:
-            raise SizesDiffer(self.size, other.size)
+        check_sizes(self, other)
         for name, stamp in other.stamps:
             if name in self and self.stamp(name) != stamp:
                 raise NameTaken(name)

@@ -1,5 +1,6 @@
 """Top sets: stamps that can be peeled off, each of them once."""
 
+from stampsheets.fastness import subsets
 from stampsheets.layers import agree
 from stampsheets.peels import on_top, peeled
 from stampsheets.stocks import checked_names, in_stock_order
@@ -83,14 +84,26 @@ def stuck_names(stock, seen):
 def least_top_sets(stock, seen, name):
     """Return the top sets with this name of which no other top set with the name is a part."""
     checked_names(stock, (name,))
-    least = []
-    for names in top_sets(stock, seen):
-        # Smaller sets come first, so a part of this set is already there.
-        if name in names and not any([is_part(part, names) for part in least]):
-            least.append(names)
-    return tuple(least)
+    return least_sets([names for names in top_sets(stock, seen) if name in names])
 
 
 def is_part(part, names):
     """Return True if all names of the part are among the names."""
     return all([name in names for name in part])
+
+
+def least_sets(sets):
+    """Return those of the sets of names, smaller ones first, of which no other one is a part."""
+    least = []
+    for names in sets:
+        # Smaller sets come first, so a part of this set is already there.
+        if not any([is_part(part, names) for part in least]):
+            least.append(names)
+    return tuple(least)
+
+
+def name_sets(stock):
+    """Return all sets of names of the stock, smaller ones first, equally large ones ordered like rows."""
+    names = stock.names
+    numbers = tuple(range(len(names)))
+    return tuple([tuple([names[number] for number in chosen]) for chosen in subsets(numbers)])

@@ -170,3 +170,17 @@ def moments_from(pairs, steps, moments):
 
 def can_end(pairs, steps, place, sheet):
     return any(at == len(steps) for at, _ in moments_from(pairs, steps, [(place, sheet)]))
+
+
+def plain_nets(pairs, size):
+    """Return the net stamps of all rows, that of the empty row among them."""
+    return reachable(pairs, ["-" * size])
+
+
+def explaining(pairs, couples, signs="ab.z"):
+    """Return all sets of names whose stamps alone can make each couple of layers, small sets first."""
+    names = [name for name, stamp in pairs]
+    return [
+        chosen for chosen in all_subsets(names)
+        if all(can_make([p for p in pairs if p[0] in chosen], start, seen, signs) for start, seen in couples)
+    ]

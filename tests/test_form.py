@@ -23,6 +23,10 @@ METHODS_OF_VALUES = set("""append clear copy count endswith extend find get inde
 
 CHANGES = "append clear extend insert pop remove reverse setdefault sort update add discard".split()
 
+MAKE_ITERATORS = "range zip enumerate reversed items keys values map".split()
+
+ITERATED_BY = "list tuple dict sorted sum any all enumerate zip min max reversed".split()
+
 DUNDERS = set("""__init__ __eq__ __len__ __iter__ __contains__ __or__ __and__ __invert__ __add__ __sub__ __mul__
     __call__ __enter__ __exit__""".split())
 
@@ -276,8 +280,17 @@ class FormTest(unittest.TestCase):
                 call = node.value
                 if isinstance(call, ast.Call):
                     name = getattr(call.func, "id", getattr(call.func, "attr", None))
-                    self.assertNotIn(name, {"zip", "enumerate", "reversed", "items", "keys", "values", "map"})
+                    self.assertNotIn(name, MAKE_ITERATORS)
                     self.assertNotIn(name, generators, (path.name, node.lineno))
+
+    def test_what_makes_an_iterator_is_not_passed_on(self):
+        for path, tree in trees():
+            for node in ast.walk(tree):
+                if isinstance(node, ast.Call) and getattr(node.func, "id", None) not in ITERATED_BY:
+                    for one in node.args + [keyword.value for keyword in node.keywords]:
+                        if isinstance(one, ast.Call):
+                            name = getattr(one.func, "id", getattr(one.func, "attr", None))
+                            self.assertNotIn(name, MAKE_ITERATORS, (path.name, node.lineno))
 
     def yields(self, function):
         return any(isinstance(node, (ast.Yield, ast.YieldFrom)) for node in ast.walk(function))

@@ -5,7 +5,10 @@ import importlib
 import inspect
 import unittest
 
+from stampsheets.boxes import Box
 from stampsheets.claims import Claim
+from stampsheets.comparing import compare_stocks
+from stampsheets.inners import stamp_making
 from stampsheets.makings import making
 from stampsheets.orders import all_orders
 from stampsheets.peels import peeling
@@ -43,6 +46,19 @@ FUNCTIONS = {
     "orders": "all_orders(stock,start,seen) order_count(stock,start,seen)",
     "topsets": """top_sets(stock,seen) is_top_set(stock,seen,names) arranged(stock,seen,names)
         greatest_top_set(stock,seen) stuck_names(stock,seen) least_top_sets(stock,seen,name)""",
+    "precedence": "over_pairs(stock,start,seen) place_range(stock,start,seen,name)",
+    "exchanges": "exchange_way(stock,start,seen,one,two)",
+    "commonorders": "common_order(stock,pairs) common_stuck(stock,pairs)",
+    "inners": "inner_stock(stock,stamp) stamp_making(stock,stamp) is_stamp_refusal(stock,stamp,chosen)",
+    "effects": "least_same_row(stock,row) commute(stock,one,two)",
+    "comparing": "strange_sheet(one,two) compare_stocks(one,two)",
+    "trimming": "needless(stock,name) trimmed(stock) least_stocks(stock)",
+    "nets": "net_stamps(stock) common_stamps(one,two) net_table(stock)",
+    "buying": "additions(stock,offers,wishes)",
+    "judging": "is_comparison(one,two,comparison)",
+    "boxes": "explains(box,names) refusal_of(box,names)",
+    "choices": """least_choices(box) needed_names(box) useful_names(box) choice_count(box) fewest_names(box)
+        cheapest_choice(box,prices)""",
 }
 
 METHODS = {
@@ -56,6 +72,10 @@ METHODS = {
     ("claims", "Claim"): """of(stock,atom) __and__(self,other) __or__(self,other) __invert__(self)
         __eq__(self,other)""",
     ("verdicts", "Verdict"): "",
+    ("inners", "StampMaking"): "",
+    ("comparing", "Comparison"): "",
+    ("boxes", "Box"): """__init__(self,stock,pairs) with_pair(self,start,seen) __len__(self) __iter__(self)
+        __eq__(self,other)""",
 }
 
 PROPERTIES = [("stocks", "Stock", "names"), ("claims", "Claim", "atoms")]
@@ -102,6 +122,8 @@ STOCK = Stock(2, [["x", "a-"], ["y", "-b"], ["z", "a-"]])
 TRAIL = Trail(STOCK, [["rows", ["x", "z"]], ["look", "ab"]])
 CLAIM = Claim.of(STOCK, ["used", "y", 1])
 OTHER = Claim.of(STOCK, ["ends", "x"])
+OFFERS = Stock(2, [["w", "c-"], ["v", "-b"]])
+BOX = Box(STOCK, [["..", "a-"], ["..", ".b"]])
 
 # Calls with lists in the place of tuples; each is asked twice and must leave its arguments alone.
 CALLS = [
@@ -159,10 +181,37 @@ CALLS = [
     ("topsets", "greatest_top_set", [STOCK, "ab"]),
     ("topsets", "stuck_names", [STOCK, "ab"]),
     ("topsets", "least_top_sets", [STOCK, "ab", "x"]),
+    ("precedence", "over_pairs", [STOCK, "..", "ab"]),
+    ("precedence", "place_range", [STOCK, "..", "ab", "x"]),
+    ("exchanges", "exchange_way", [STOCK, "..", "ab", ["x", "y", "z"], ["z", "y", "x"]]),
+    ("commonorders", "common_order", [STOCK, [["..", "ab"], ["..", "a-"]]]),
+    ("commonorders", "common_stuck", [STOCK, [["..", "ab"], ["..", "c-"]]]),
+    ("inners", "inner_stock", [STOCK, "a-"]),
+    ("inners", "is_stamp_refusal", [STOCK, "cb", [0, 0]]),
+    ("effects", "least_same_row", [STOCK, ["z", "y", "x"]]),
+    ("effects", "commute", [STOCK, "x", "y"]),
+    ("comparing", "strange_sheet", [STOCK, OFFERS]),
+    ("trimming", "needless", [STOCK, "x"]),
+    ("trimming", "trimmed", [STOCK]),
+    ("trimming", "least_stocks", [STOCK]),
+    ("nets", "net_stamps", [STOCK]),
+    ("nets", "common_stamps", [STOCK, OFFERS]),
+    ("nets", "net_table", [STOCK]),
+    ("buying", "additions", [STOCK, OFFERS, ["cb", "ab"]]),
+    ("judging", "is_comparison", [
+        OFFERS, STOCK, ["apart", [None, ["y"]], [None, ["v"], None], "w", "x", "zz", [0], [0]]]),
+    ("boxes", "explains", [BOX, ["y", "x"]]),
+    ("boxes", "refusal_of", [BOX, ["z", "z"]]),
+    ("choices", "least_choices", [BOX]),
+    ("choices", "needed_names", [BOX]),
+    ("choices", "useful_names", [BOX]),
+    ("choices", "choice_count", [BOX]),
+    ("choices", "fewest_names", [BOX]),
+    ("choices", "cheapest_choice", [BOX, [1, 2, 3]]),
 ]
 
 
-SAY_TRUE_OR_FALSE = ("keeps", "may_be_bare", "mark_holds", "holds", "implies")
+SAY_TRUE_OR_FALSE = ("keeps", "may_be_bare", "mark_holds", "holds", "implies", "commute", "needless", "explains")
 
 
 def has_lists(value):
@@ -194,9 +243,12 @@ class SequencesTest(unittest.TestCase):
         made, refused = making(STOCK, "..", "ab"), making(STOCK, "..", "cc")
         end = peeling(STOCK, "ab")
         told, unsure = verdict("..", "qq", CLAIM), verdict("..", "ab", OTHER)
+        stamped, missed = stamp_making(STOCK, "ab"), stamp_making(STOCK, "cb")
+        compared = compare_stocks(STOCK, OFFERS)
         for value in [
             STOCK.stamps, STOCK.names, end.order, made.row, made.cells, refused.cells, TRAIL.steps, CLAIM.tree,
-            CLAIM.atoms, told.table, unsure.table, unsure.keeping, unsure.breaking,
+            CLAIM.atoms, told.table, unsure.table, unsure.keeping, unsure.breaking, stamped.row, stamped.cells,
+            missed.cells, compared.rows, compared.other_rows, BOX.pairs,
         ]:
             self.assertIsInstance(value, tuple)
             self.assertFalse(has_lists(value))
