@@ -35,16 +35,21 @@ def least_numbers(table):
     return least
 
 
-def is_step_table(stock, start, seen, least, table):
-    """Return True if the table bounds the presses from below by `least`, otherwise False."""
+def is_bound(stock, price_of, start, seen, least, table):
+    """Return True if the table bounds what all rows cost from below by `least`, otherwise False."""
     # Of several pairs with one layer, the one with the least number asks for the most.
     numbers = least_numbers(as_tuples(table))
     if seen not in numbers or numbers[seen] > 0:
         return False
-    for left, steps in numbers.items():
-        if agree(left, start) and steps < least:
+    for left, number in numbers.items():
+        if agree(left, start) and number < least:
             return False
-        for _, after in peels_of(stock, left):
-            if after not in numbers or numbers[after] > steps + 1:
+        for name, after in peels_of(stock, left):
+            if after not in numbers or numbers[after] > number + price_of[name]:
                 return False
     return True
+
+
+def is_step_table(stock, start, seen, least, table):
+    """Return True if the table bounds the presses from below by `least`, otherwise False."""
+    return is_bound(stock, {name: 1 for name in stock.names}, start, seen, least, table)

@@ -62,3 +62,48 @@ def counts_after(moves, counts):
         for after in moves[state].values():
             later[after] = later.get(after, 0) + count
     return later
+
+
+def weights_after(moves, weights, amounts):
+    """Return the amount at each state after one more move that multiplies it by the weight of its name."""
+    later = {}
+    for state, amount in amounts.items():
+        for name, after in moves[state].items():
+            later[after] = later.get(after, 0) + amount * weights[name]
+    return later
+
+
+def least_costs(first, moves, price_of):
+    """Return for each state the least cost of moves that reach it, and the fewest of such moves."""
+    least = {first: (0, 0)}
+    fresh = [first]
+    while fresh:
+        better = {}
+        for state in fresh:
+            cost, steps = least[state]
+            for name, after in moves[state].items():
+                told = (cost + price_of[name], steps + 1)
+                if after not in least or told < least[after]:
+                    least[after] = told
+                    better[after] = True
+        fresh = list(better)
+    return least
+
+
+def cheapest_row(names, moves, price_of, least, ends):
+    """Return the first row, in the order of rows, of the cheapest ones from one of the ends, or None."""
+    if len(ends) == 0:
+        return None
+    cost, steps = min([least[end] for end in ends])
+    group = {end: True for end in ends if least[end] == (cost, steps)}
+    row = []
+    while steps > 0:
+        for name in names:
+            earlier = (cost - price_of[name], steps - 1)
+            before = states_before([state for state in least if least[state] == earlier], moves, name, group)
+            if before:
+                row.append(name)
+                group = before
+                cost, steps = earlier
+                break
+    return tuple(row)

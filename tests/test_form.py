@@ -212,7 +212,9 @@ class FormTest(unittest.TestCase):
             needed[path.stem] = []
             used = {node.id for node in ast.walk(tree) if isinstance(node, ast.Name)}
             for node in ast.walk(tree):
-                if isinstance(node, ast.ImportFrom):
+                if isinstance(node, ast.ImportFrom) and node.module == "math":
+                    self.assertEqual([alias.name for alias in node.names], ["gcd"], path.name)
+                elif isinstance(node, ast.ImportFrom):
                     self.assertRegex(node.module, r"\Astampsheets\.[a-z]+\Z")
                     stem = node.module.partition(".")[2]
                     needed[path.stem].append(stem)

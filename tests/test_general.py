@@ -8,10 +8,13 @@ import unittest
 from stampsheets.boxes import Box
 from stampsheets.claims import Claim
 from stampsheets.comparing import compare_stocks
+from stampsheets.counting import row_sum
 from stampsheets.inners import stamp_making
 from stampsheets.makings import making
 from stampsheets.orders import all_orders
 from stampsheets.peels import peeling
+from stampsheets.powersums import PowerSum
+from stampsheets.prices import cheapest
 from stampsheets.rowlists import rows_with
 from stampsheets.stocks import Stock
 from stampsheets.trails import Trail
@@ -59,6 +62,23 @@ FUNCTIONS = {
     "boxes": "explains(box,names) refusal_of(box,names)",
     "choices": """least_choices(box) needed_names(box) useful_names(box) choice_count(box) fewest_names(box)
         cheapest_choice(box,prices)""",
+    "hurdles": "breakers(stock,seen,chosen) least_hurdles(box)",
+    "fewestpapers": "is_fewest_paper(box,names,cases) fewest_paper(box)",
+    "prices": """row_cost(stock,prices,row) price_order(stock,prices) cheapest(stock,prices,start,seen)
+        is_cost_table(stock,prices,start,seen,least,table)""",
+    "weighing": "mark_costs(stock,prices,start,seen,cell) mark_margin(stock,prices,start,seen,cell)",
+    "margins": """cost_margin(prices,start,seen,claim) sure_within(prices,start,seen,claim,excess)
+        stamp_worth(stock,prices,start,seen,name)""",
+    "ratios": """is_ratio(value) ratio(top,bottom) plus(one,two) minus(one,two) times(one,two) divided(one,two)
+        less(one,two) power(one,count)""",
+    "powersums": "long_run(power_sum)",
+    "counting": "row_sum(stock,start,seen)",
+    "chances": """chance_sum(stock,chances,start,seen) long_chance(stock,chances,start,seen)
+        sheet_chances(stock,chances,start,n) resting_chances(stock,chances,start)
+        after_press(stock,chances,weights)""",
+    "covers": """top_sum(stock,chances,cell,name) cover_sum(stock,chances,chosen) cover_wait(stock,chances,chosen)
+        wait_table(stock,chances,chosen)""",
+    "claimchances": "claim_chances(chances,start,seen,claim,n) claim_share(chances,start,seen,claim,n)",
 }
 
 METHODS = {
@@ -76,6 +96,9 @@ METHODS = {
     ("comparing", "Comparison"): "",
     ("boxes", "Box"): """__init__(self,stock,pairs) with_pair(self,start,seen) __len__(self) __iter__(self)
         __eq__(self,other)""",
+    ("prices", "Cheapest"): "",
+    ("powersums", "PowerSum"): """__init__(self,terms) shifted(self) __call__(self,n) __add__(self,other)
+        __sub__(self,other) __mul__(self,other) __eq__(self,other) __len__(self) __iter__(self)""",
 }
 
 PROPERTIES = [("stocks", "Stock", "names"), ("claims", "Claim", "atoms")]
@@ -124,6 +147,8 @@ CLAIM = Claim.of(STOCK, ["used", "y", 1])
 OTHER = Claim.of(STOCK, ["ends", "x"])
 OFFERS = Stock(2, [["w", "c-"], ["v", "-b"]])
 BOX = Box(STOCK, [["..", "a-"], ["..", ".b"]])
+CHANCES = [[1, 2], [1, 3], [1, 6]]
+TOTAL = PowerSum([[[1, 2], [1, 1]], [[1, 1], [1, 3]]])
 
 # Calls with lists in the place of tuples; each is asked twice and must leave its arguments alone.
 CALLS = [
@@ -208,10 +233,43 @@ CALLS = [
     ("choices", "choice_count", [BOX]),
     ("choices", "fewest_names", [BOX]),
     ("choices", "cheapest_choice", [BOX, [1, 2, 3]]),
+    ("hurdles", "breakers", [STOCK, "ab", [0, 0]]),
+    ("hurdles", "least_hurdles", [BOX]),
+    ("fewestpapers", "is_fewest_paper", [BOX, ["y", "z", "y"], [[0, [0]], [1, [1, 1]]]]),
+    ("fewestpapers", "fewest_paper", [BOX]),
+    ("prices", "row_cost", [STOCK, [1, 2, 3], ["x", "y"]]),
+    ("prices", "price_order", [STOCK, [2, 1, 1]]),
+    ("prices", "is_cost_table", [STOCK, [1, 2, 3], "..", "a-", 1, [["a-", 0], ["--", 1]]]),
+    ("weighing", "mark_costs", [STOCK, [1, 2, 3], "..", "a-", 1]),
+    ("weighing", "mark_margin", [STOCK, [1, 2, 3], "..", "a-", 1]),
+    ("margins", "cost_margin", [[1, 2, 3], "..", "ab", CLAIM]),
+    ("margins", "sure_within", [[1, 2, 3], "..", "ab", OTHER, 1]),
+    ("margins", "stamp_worth", [STOCK, [1, 2, 3], "..", "ab", "x"]),
+    ("ratios", "is_ratio", [[1, 2]]),
+    ("ratios", "plus", [[1, 2], [1, 3]]),
+    ("ratios", "minus", [[1, 2], [1, 3]]),
+    ("ratios", "times", [[1, 2], [1, 3]]),
+    ("ratios", "divided", [[1, 2], [1, 3]]),
+    ("ratios", "less", [[1, 2], [1, 3]]),
+    ("ratios", "power", [[1, 2], 3]),
+    ("powersums", "long_run", [TOTAL]),
+    ("counting", "row_sum", [STOCK, "..", "ab"]),
+    ("chances", "chance_sum", [STOCK, CHANCES, "..", "ab"]),
+    ("chances", "long_chance", [STOCK, CHANCES, "..", "ab"]),
+    ("chances", "sheet_chances", [STOCK, CHANCES, "..", 3]),
+    ("chances", "resting_chances", [STOCK, CHANCES, ".."]),
+    ("chances", "after_press", [STOCK, CHANCES, [["..", [1, 2]], ["a.", [1, 2]]]]),
+    ("covers", "top_sum", [STOCK, CHANCES, 0, "x"]),
+    ("covers", "cover_sum", [STOCK, CHANCES, [1, 0]]),
+    ("covers", "cover_wait", [STOCK, CHANCES, [1, 0]]),
+    ("covers", "wait_table", [STOCK, CHANCES, [1, 0]]),
+    ("claimchances", "claim_chances", [CHANCES, "..", "ab", CLAIM, 4]),
+    ("claimchances", "claim_share", [CHANCES, "..", "ab", CLAIM, 4]),
 ]
 
 
-SAY_TRUE_OR_FALSE = ("keeps", "may_be_bare", "mark_holds", "holds", "implies", "commute", "needless", "explains")
+SAY_TRUE_OR_FALSE = ("keeps", "may_be_bare", "mark_holds", "holds", "implies", "commute", "needless", "explains",
+                     "sure_within", "less")
 
 
 def has_lists(value):
@@ -245,10 +303,12 @@ class SequencesTest(unittest.TestCase):
         told, unsure = verdict("..", "qq", CLAIM), verdict("..", "ab", OTHER)
         stamped, missed = stamp_making(STOCK, "ab"), stamp_making(STOCK, "cb")
         compared = compare_stocks(STOCK, OFFERS)
+        cheap = cheapest(STOCK, [1, 2, 3], "..", "ab")
         for value in [
             STOCK.stamps, STOCK.names, end.order, made.row, made.cells, refused.cells, TRAIL.steps, CLAIM.tree,
             CLAIM.atoms, told.table, unsure.table, unsure.keeping, unsure.breaking, stamped.row, stamped.cells,
-            missed.cells, compared.rows, compared.other_rows, BOX.pairs,
+            missed.cells, compared.rows, compared.other_rows, BOX.pairs, cheap.row, cheap.table, TOTAL.terms,
+            TOTAL(3), row_sum(STOCK, "..", "ab").terms,
         ]:
             self.assertIsInstance(value, tuple)
             self.assertFalse(has_lists(value))
