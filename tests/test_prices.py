@@ -96,7 +96,7 @@ class CheapestTest(unittest.TestCase):
 
     def test_many_layers(self):
         stock = Stock(8, [(f"n{k}", "-" * k + "a" + "-" * (7 - k)) for k in range(8)])
-        found = cheapest(stock, range(1, 9), "." * 8, "a" * 8)
+        found = cheapest(stock, list(range(1, 9)), "." * 8, "a" * 8)
         self.assertEqual((found.cost, found.row, len(found.table)), (36, stock.names, 256))
 
     def test_against_all_rows(self):

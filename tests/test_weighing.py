@@ -47,11 +47,16 @@ class WeighingTest(unittest.TestCase):
         self.assertEqual(mark_margin(Stock(1, ()), (), "b", "-", 0), ("b", None))
         self.assertEqual(len(mark_costs(Stock(1, ()), [], "-", "-", 0)), 27)
 
-    def test_stock_with_all_marks(self):
-        names = ["m" + (mark if mark != "." else "0") for mark in MARKS[:24]]
-        stock = Stock(1, [(name, mark) for name, mark in zip(names, MARKS)])
+    def test_most_stamps(self):
+        stock = Stock(1, [(f"m{k}", mark) for k, mark in enumerate(MARKS[:24])])
         costs = mark_costs(stock, [k % 5 for k in range(24)], "z", "-", 0)
         self.assertEqual(costs, tuple((mark, k % 5) for k, mark in enumerate(MARKS[:24])) + (("z", 0),))
+
+    def test_no_strange_mark_is_left(self):
+        # More stamps than the document allows; then each mark is known.
+        stock = Stock(1, [(f"m{k}", mark) for k, mark in enumerate(MARKS)])
+        costs = mark_costs(stock, list(range(27)), "z", "-", 0)
+        self.assertEqual(costs, tuple((mark, k) for k, mark in enumerate(MARKS[:26])) + (("z", 0),))
 
     def test_bad_prices(self):
         for call in (mark_costs, mark_margin):
