@@ -3,11 +3,7 @@
 from stampsheets.errors import BadAtom, StocksDiffer
 from stampsheets.stocks import checked_names
 from stampsheets.tupling import as_tuples
-
-
-def is_whole(value, least, most):
-    """Return True if the value is a whole number within the bounds."""
-    return isinstance(value, int) and not isinstance(value, bool) and least <= value <= most
+from stampsheets.wholes import is_whole
 
 
 def is_rest(items):

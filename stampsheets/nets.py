@@ -6,9 +6,9 @@ from stampsheets.stocks import check_sizes
 from stampsheets.ways import spread
 
 
-def presses_of(stock, layer):
+def presses_of(pairs, layer):
     """Return the pairs of each name and the layer that its press makes."""
-    return tuple([(name, press(layer, stamp)) for name, stamp in stock])
+    return tuple([(name, press(layer, stamp)) for name, stamp in pairs])
 
 
 def net_stamps(stock):

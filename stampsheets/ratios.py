@@ -2,13 +2,10 @@
 
 from math import gcd
 
+from stampsheets.wholes import is_number
+
 ZERO = (0, 1)
 ONE = (1, 1)
-
-
-def is_number(value):
-    """Return True if the value is a whole number, otherwise False."""
-    return isinstance(value, int) and not isinstance(value, bool)
 
 
 def is_ratio(value):

@@ -22,13 +22,16 @@ def is_stamp(value, size):
     return is_layer(value) and len(value) == size and len(cells_of(value)) > 0
 
 
-def check_pairs(size, pairs):
-    """Raise the error of the first pair that cannot stand in a stock of this size."""
+def check_pairs(pairs, fitting):
+    """Raise the error of the first pair that cannot stand in a stock.
+
+    `fitting` tells for each pair whether its second item is a stamp.
+    """
     earlier = []
-    for index, (name, stamp) in enumerate(pairs):
+    for index, (name, _) in enumerate(pairs):
         if not is_name(name):
             raise BadName(index)
-        if not is_stamp(stamp, size):
+        if not fitting[index]:
             raise BadStamp(index)
         if name in earlier:
             raise NameTaken(name)
@@ -59,7 +62,7 @@ class Stock:
 
     def __init__(self, size, stamps):
         pairs = as_tuples(stamps)
-        check_pairs(size, pairs)
+        check_pairs(pairs, [is_stamp(stamp, size) for name, stamp in pairs])
         self.size = size
         self.stamps = pairs
         self._stamp_of = {name: stamp for name, stamp in pairs}

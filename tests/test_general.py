@@ -6,9 +6,13 @@ import inspect
 import unittest
 
 from stampsheets.boxes import Box
+from stampsheets.carbonmaking import carbon_making
 from stampsheets.claims import Claim
 from stampsheets.comparing import compare_stocks
 from stampsheets.counting import row_sum
+from stampsheets.duels import Duel
+from stampsheets.inkmaking import ink_making
+from stampsheets.inks import InkStock
 from stampsheets.inners import stamp_making
 from stampsheets.makings import making
 from stampsheets.orders import all_orders
@@ -79,6 +83,20 @@ FUNCTIONS = {
     "covers": """top_sum(stock,chances,cell,name) cover_sum(stock,chances,chosen) cover_wait(stock,chances,chosen)
         wait_table(stock,chances,chosen)""",
     "claimchances": "claim_chances(chances,start,seen,claim,n) claim_share(chances,start,seen,claim,n)",
+    "duels": "answers_to(duel,sheet) duel_sheets(duel,start)",
+    "havens": "is_haven(duel,sheets) safe_sheets(duel,start) answer_plan(duel,start)",
+    "losing": "loss_table(duel,start) is_loss_table(duel,table)",
+    "restoring": "weak_point(mine,foes,wish) least_most(mine,foes,wishes,start)",
+    "winning": "won_sheets(duel,start) is_trap(duel,sheets)",
+    "inks": "is_ink_stamp(value,size) ink_press(sheet,stamp) ink_pressed(inks,sheet,row)",
+    "plaininks": "plain_layer(reading) ink_reading(layer) plain_stamp(stamp) plain_stock(inks)",
+    "inkmaking": "ink_making(inks,start,seen) ink_net(inks,row)",
+    "carbons": """carbon_pairs(stock) pressed_pairs(stock,row) carbon_stock(stock)
+        carbon_layer(stock,layer,pairs)""",
+    "carbonmaking": "carbon_making(stock,start,seen,pairs) carbon_sets(stock,start,seen)",
+    "piles": """pile_stock(stock,depth) pile_layer(layers) pile_parts(layer,depth)
+        pile_sheets(stock,sheets,row)""",
+    "grids": "grid_rows(layer,width) grid_layer(rows) turned(layer,width) mirrored(layer,width)",
 }
 
 METHODS = {
@@ -99,9 +117,12 @@ METHODS = {
     ("prices", "Cheapest"): "",
     ("powersums", "PowerSum"): """__init__(self,terms) shifted(self) __call__(self,n) __add__(self,other)
         __sub__(self,other) __mul__(self,other) __eq__(self,other) __len__(self) __iter__(self)""",
+    ("duels", "Duel"): "__init__(self,mine,foes,wishes,most) __eq__(self,other)",
+    ("inks", "InkStock"): "__init__(self,size,stamps) __eq__(self,other)",
+    ("inkmaking", "InkMaking"): "",
 }
 
-PROPERTIES = [("stocks", "Stock", "names"), ("claims", "Claim", "atoms")]
+PROPERTIES = [("stocks", "Stock", "names"), ("claims", "Claim", "atoms"), ("inks", "InkStock", "names")]
 
 
 def written(name, function):
@@ -149,6 +170,8 @@ OFFERS = Stock(2, [["w", "c-"], ["v", "-b"]])
 BOX = Box(STOCK, [["..", "a-"], ["..", ".b"]])
 CHANCES = [[1, 2], [1, 3], [1, 6]]
 TOTAL = PowerSum([[[1, 2], [1, 1]], [[1, 1], [1, 3]]])
+DUEL = Duel(STOCK, OFFERS, ["a-", "-b"], 1)
+INKS = InkStock(1, [["x", [["set", 3]]], ["y", [["add", 4]]]])
 
 # Calls with lists in the place of tuples; each is asked twice and must leave its arguments alone.
 CALLS = [
@@ -265,6 +288,34 @@ CALLS = [
     ("covers", "wait_table", [STOCK, CHANCES, [1, 0]]),
     ("claimchances", "claim_chances", [CHANCES, "..", "ab", CLAIM, 4]),
     ("claimchances", "claim_share", [CHANCES, "..", "ab", CLAIM, 4]),
+    ("duels", "answers_to", [DUEL, "cb"]),
+    ("duels", "duel_sheets", [DUEL, ".."]),
+    ("havens", "is_haven", [DUEL, ["ab", "cb", "ab"]]),
+    ("havens", "safe_sheets", [DUEL, ".."]),
+    ("havens", "answer_plan", [DUEL, ".."]),
+    ("losing", "loss_table", [DUEL, ".."]),
+    ("losing", "is_loss_table", [DUEL, [["cq", 0, None], ["cq", 1, "w"]]]),
+    ("restoring", "weak_point", [OFFERS, STOCK, "cb"]),
+    ("restoring", "least_most", [STOCK, OFFERS, ["ab", "a-"], ".."]),
+    ("winning", "won_sheets", [DUEL, ".."]),
+    ("winning", "is_trap", [DUEL, ["cq", "qq"]]),
+    ("inks", "is_ink_stamp", [[["set", 3], None], 2]),
+    ("inks", "ink_press", ["34", [["bleach", 1], None]]),
+    ("inks", "ink_pressed", [INKS, "1", ["x", "y"]]),
+    ("plaininks", "plain_stamp", [[["bleach", 1], None]]),
+    ("plaininks", "plain_stock", [INKS]),
+    ("inkmaking", "ink_net", [INKS, ["y", "x"]]),
+    ("carbons", "carbon_pairs", [STOCK]),
+    ("carbons", "pressed_pairs", [STOCK, ["y", "x"]]),
+    ("carbons", "carbon_stock", [STOCK]),
+    ("carbons", "carbon_layer", [STOCK, "a-", [[1, "b"], [1, "b"]]]),
+    ("carbonmaking", "carbon_sets", [STOCK, "..", "a-"]),
+    ("piles", "pile_stock", [STOCK, 3]),
+    ("piles", "pile_layer", [["ab", "--"]]),
+    ("piles", "pile_parts", ["ab--", 2]),
+    ("piles", "pile_sheets", [STOCK, ["..", "qq"], [["x", 2], ["y", 1]]]),
+    ("grids", "grid_rows", ["ab--", 2]),
+    ("grids", "grid_layer", [["ab", "--"]]),
 ]
 
 
@@ -291,6 +342,8 @@ class SequencesTest(unittest.TestCase):
             self.assertFalse(has_lists(answer), name)
             self.assertEqual(arguments, before, name)
             self.assertEqual(function(*arguments), answer, name)
+            named = dict(zip(inspect.signature(function).parameters, arguments))
+            self.assertEqual(function(**named), answer, name)
             if name != "is_layer":
                 self.assertEqual(function(*in_tuples(arguments)), answer, name)
             if name.startswith("is_") or name in SAY_TRUE_OR_FALSE:
@@ -304,11 +357,14 @@ class SequencesTest(unittest.TestCase):
         stamped, missed = stamp_making(STOCK, "ab"), stamp_making(STOCK, "cb")
         compared = compare_stocks(STOCK, OFFERS)
         cheap = cheapest(STOCK, [1, 2, 3], "..", "ab")
+        inked, clean = ink_making(INKS, "0", "7"), ink_making(INKS, "0", "6")
+        carbon = carbon_making(STOCK, "..", "qb", [[0, "a"]])
         for value in [
             STOCK.stamps, STOCK.names, end.order, made.row, made.cells, refused.cells, TRAIL.steps, CLAIM.tree,
             CLAIM.atoms, told.table, unsure.table, unsure.keeping, unsure.breaking, stamped.row, stamped.cells,
             missed.cells, compared.rows, compared.other_rows, BOX.pairs, cheap.row, cheap.table, TOTAL.terms,
-            TOTAL(3), row_sum(STOCK, "..", "ab").terms,
+            TOTAL(3), row_sum(STOCK, "..", "ab").terms, DUEL.wishes, INKS.stamps, INKS.names, inked.row, inked.places,
+            clean.places, carbon.cells,
         ]:
             self.assertIsInstance(value, tuple)
             self.assertFalse(has_lists(value))
