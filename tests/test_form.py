@@ -13,7 +13,8 @@ BUILTINS = set("""len range enumerate zip min max sum abs sorted reversed int st
 
 STATEMENTS = (
     ast.Module, ast.FunctionDef, ast.ClassDef, ast.Assign, ast.AugAssign, ast.If, ast.While, ast.For, ast.Return,
-    ast.Break, ast.Continue, ast.Pass, ast.Raise, ast.Expr, ast.ImportFrom, ast.Yield, ast.YieldFrom,
+    ast.Break, ast.Continue, ast.Pass, ast.Raise, ast.Expr, ast.ImportFrom, ast.Yield, ast.YieldFrom, ast.Try,
+    ast.With,
 )
 
 METHODS_OF_VALUES = set("""append clear copy count endswith extend find get index insert isalnum isalpha isdigit
@@ -259,8 +260,10 @@ class FormTest(unittest.TestCase):
             for node in ast.walk(tree):
                 if isinstance(node, (ast.FunctionDef, ast.ClassDef)):
                     for decorator in node.decorator_list:
-                        self.assertIsInstance(decorator, ast.Name)
-                        self.assertIn(decorator.id, ("property", "staticmethod"), path.name)
+                        if isinstance(decorator, ast.Attribute):
+                            self.assertEqual(ast.unparse(decorator), node.name + ".setter")
+                        else:
+                            self.assertIn(decorator.id, ("property", "staticmethod"), path.name)
                 if isinstance(node, ast.arguments):
                     for default in node.defaults + [one for one in node.kw_defaults if one is not None]:
                         self.assertIsInstance(default, ast.Constant)
@@ -297,12 +300,37 @@ class FormTest(unittest.TestCase):
     def yields(self, function):
         return any(isinstance(node, (ast.Yield, ast.YieldFrom)) for node in ast.walk(function))
 
+    def test_own_errors_alone_are_caught(self):
+        for path, tree in trees():
+            for node in ast.walk(tree):
+                if isinstance(node, ast.ExceptHandler):
+                    self.assertEqual(ast.unparse(node.type), "StampError", path.name)
+                if isinstance(node, ast.Try):
+                    self.assertEqual(node.finalbody, [])
+
+    def test_rows_of_exit(self):
+        """An exit gives attributes only names, attributes and literals, and asks nothing but `kind is None` (L6)."""
+        exits = [f for _, tree in trees() for f in functions_in(tree) if f.name == "__exit__"]
+        self.assertEqual(len(exits), 2)
+        for function in exits:
+            for node in ast.walk(function):
+                if isinstance(node, ast.stmt) and node is not function:
+                    self.assertIsInstance(node, (ast.Assign, ast.If))
+                if isinstance(node, ast.If):
+                    self.assertEqual(ast.unparse(node.test), "kind is None")
+                if isinstance(node, ast.Assign):
+                    self.assertIsInstance(node.value, (ast.Attribute, ast.Constant))
+
     def test_no_name_is_a_method_and_an_attribute(self):
         methods, attributes = set(), set()
         for _, tree in trees():
             for node in ast.walk(tree):
                 if isinstance(node, ast.ClassDef):
                     methods |= {one.name for one in node.body if isinstance(one, ast.FunctionDef)}
+                    # A property with a setter is assigned like an attribute.
+                    methods -= {ast.unparse(one.decorator_list[0])[:-len(".setter")] for one in node.body
+                                if isinstance(one, ast.FunctionDef) and len(one.decorator_list) == 1
+                                and isinstance(one.decorator_list[0], ast.Attribute)}
                 if isinstance(node, ast.Attribute) and isinstance(node.ctx, ast.Store):
                     attributes.add(node.attr)
         self.assertEqual(methods & attributes, set())

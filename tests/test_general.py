@@ -10,6 +10,7 @@ from stampsheets.carbonmaking import carbon_making
 from stampsheets.claims import Claim
 from stampsheets.comparing import compare_stocks
 from stampsheets.counting import row_sum
+from stampsheets.desks import Desk
 from stampsheets.duels import Duel
 from stampsheets.inkmaking import ink_making
 from stampsheets.inks import InkStock
@@ -17,6 +18,7 @@ from stampsheets.inners import stamp_making
 from stampsheets.makings import making
 from stampsheets.orders import all_orders
 from stampsheets.peels import peeling
+from stampsheets.performing import perform
 from stampsheets.powersums import PowerSum
 from stampsheets.prices import cheapest
 from stampsheets.rowlists import rows_with
@@ -97,6 +99,19 @@ FUNCTIONS = {
     "piles": """pile_stock(stock,depth) pile_layer(layers) pile_parts(layer,depth)
         pile_sheets(stock,sheets,row)""",
     "grids": "grid_rows(layer,width) grid_layer(rows) turned(layer,width) mirrored(layer,width)",
+    "shapes": """is_shape(value) placed(shape,height,width,row,column) placings(shape,height,width)
+        shape_turns(shape) grid_stock(height,width,shapes,*,turns=False)""",
+    "renaming": """recoloured(layer,pairs) recoloured_stock(stock,pairs) moved(layer,cells)
+        moved_stock(stock,cells)""",
+    "symmetries": "turned_stock(stock,width) mirrored_stock(stock,width) grid_symmetries(stock,width)",
+    "sides": """beside(one,two) beside_layer(one,two) parts_of(stock) part_stock(stock,group)
+        part_layer(stock,layer,group)""",
+    "performing": "perform(desk,deeds)",
+    "stocknotes": "format_stock(stock) parse_stock(text)",
+    "trailnotes": "format_trail(trail) parse_trail(stock,text)",
+    "claimnotes": "format_claim(claim) parse_claim(stock,text)",
+    "boxnotes": "format_box(box) parse_box(text)",
+    "sumnotes": "format_row(row) parse_row(stock,text) format_power_sum(power_sum) parse_power_sum(text)",
 }
 
 METHODS = {
@@ -120,9 +135,16 @@ METHODS = {
     ("duels", "Duel"): "__init__(self,mine,foes,wishes,most) __eq__(self,other)",
     ("inks", "InkStock"): "__init__(self,size,stamps) __eq__(self,other)",
     ("inkmaking", "InkMaking"): "",
+    ("desks", "Desk"): """__init__(self,stock,sheet) press(self,name) undo(self) back_to(self,count)
+        make(self,layer) __len__(self) __iter__(self)""",
+    ("blocks", "Trial"): "__init__(self,desk) __enter__(self) __exit__(self,kind,value,trace)",
+    ("blocks", "Batch"): "__init__(self,desk) __enter__(self) __exit__(self,kind,value,trace)",
 }
 
-PROPERTIES = [("stocks", "Stock", "names"), ("claims", "Claim", "atoms"), ("inks", "InkStock", "names")]
+PROPERTIES = [
+    ("stocks", "Stock", "names"), ("claims", "Claim", "atoms"), ("inks", "InkStock", "names"),
+    ("desks", "Desk", "first_sheet"), ("desks", "Desk", "presses"), ("desks", "Desk", "now"),
+]
 
 
 def written(name, function):
@@ -316,6 +338,34 @@ CALLS = [
     ("piles", "pile_sheets", [STOCK, ["..", "qq"], [["x", 2], ["y", 1]]]),
     ("grids", "grid_rows", ["ab--", 2]),
     ("grids", "grid_layer", [["ab", "--"]]),
+    ("shapes", "is_shape", [["ab", "--"]]),
+    ("shapes", "placed", [["ab", "--"], 3, 3, 1, 0]),
+    ("shapes", "placings", [["ab", "--"], 3, 3]),
+    ("shapes", "shape_turns", [["ab", "--"]]),
+    ("shapes", "grid_stock", [2, 2, [["x", ["ab"]], ["y", ["a", "-"]]]]),
+    ("renaming", "recoloured", ["ab-", [["a", "b"], ["b", "a"]]]),
+    ("renaming", "recoloured_stock", [STOCK, [["a", "b"], ["b", "a"]]]),
+    ("renaming", "moved", ["ab-", [2, 0, 1]]),
+    ("renaming", "moved_stock", [STOCK, [1, 0]]),
+    ("symmetries", "turned_stock", [STOCK, 2]),
+    ("symmetries", "mirrored_stock", [STOCK, 2]),
+    ("symmetries", "grid_symmetries", [STOCK, 1]),
+    ("sides", "beside", [STOCK, OFFERS]),
+    ("sides", "parts_of", [STOCK]),
+    ("sides", "part_stock", [STOCK, 0]),
+    ("sides", "part_layer", [STOCK, "ab", 1]),
+    ("stocknotes", "format_stock", [STOCK]),
+    ("stocknotes", "parse_stock", ["stock 2\nx a-"]),
+    ("trailnotes", "format_trail", [TRAIL]),
+    ("trailnotes", "parse_trail", [STOCK, "rows x z\nlook ab"]),
+    ("claimnotes", "format_claim", [CLAIM]),
+    ("claimnotes", "parse_claim", [STOCK, "(used y 1 & ~bare 1)"]),
+    ("boxnotes", "format_box", [BOX]),
+    ("boxnotes", "parse_box", ["stock 2\nx a-\npair .. ab"]),
+    ("sumnotes", "format_row", [["x", "y"]]),
+    ("sumnotes", "parse_row", [STOCK, "x y"]),
+    ("sumnotes", "format_power_sum", [TOTAL]),
+    ("sumnotes", "parse_power_sum", ["1 * (-1/2) ** n"]),
 ]
 
 
@@ -368,6 +418,16 @@ class SequencesTest(unittest.TestCase):
         ]:
             self.assertIsInstance(value, tuple)
             self.assertFalse(has_lists(value))
+
+    def test_deeds_and_desks(self):
+        desk = Desk(STOCK, "..")
+        deeds = [["press", "x"], ["attempt", [["make", "ab"], ["undo"]]], ["show"]]
+        before = copy.deepcopy(deeds)
+        told = perform(deeds=deeds, desk=desk)
+        self.assertEqual(told, ("a.", (True, (("y",), "y")), ("a.", ("x",))))
+        self.assertEqual(perform(Desk(stock=STOCK, sheet=".."), in_tuples(deeds)), told)
+        self.assertEqual(deeds, before)
+        self.assertFalse(has_lists(told) or has_lists(desk.presses))
 
     def test_items_of_generators_are_tuples(self):
         for item in list(rows_with("..", "ab", CLAIM, longest=3)) + list(all_orders(STOCK, "..", "ab")):
