@@ -1,7 +1,7 @@
 """Carbons, which keep for every cell all marks that were ever pressed there."""
 
 from stampsheets.layers import DASH, MARKS
-from stampsheets.stocks import Stock, checked_names
+from stampsheets.stocks import Stock
 from stampsheets.tupling import as_tuples
 
 KEPT = "a"
@@ -22,7 +22,7 @@ def carbon_pairs(stock):
 
 def pressed_pairs(stock, row):
     """Return the carbon pairs that some press of the row has put there."""
-    return pairs_of(stock.size, [stock.stamp(name) for name in checked_names(stock, row)])
+    return pairs_of(stock.size, [stock.stamp(name) for name in row])
 
 
 def carbon_signs(stock, pairs, other):

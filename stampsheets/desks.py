@@ -41,8 +41,8 @@ class Desk:
         return pressed(self.stock, self.laid, self.standing)
 
     @now.setter
-    def now(self, sheet):
-        self.laid = checked_sheet(self.stock, sheet)
+    def now(self, value):
+        self.laid = checked_sheet(self.stock, value)
         self.standing = ()
 
     def __len__(self):

@@ -3,7 +3,6 @@
 from stampsheets.blocks import Batch, Trial
 from stampsheets.errors import BadDeed, Mismatch, StampError
 from stampsheets.layers import DASH
-from stampsheets.tupling import as_tuples
 
 LENGTHS = {
     "press": 2, "undo": 1, "back": 2, "make": 2, "sheet": 2, "show": 1, "check": 2,
@@ -19,11 +18,6 @@ def check_deeds(deeds):
             raise BadDeed(deed)
         if deed[0] in WORDS_OF_BLOCKS:
             check_deeds(deed[1])
-
-
-def lay(desk, sheet):
-    """Lay a new first sheet on the desk."""
-    desk.now = sheet
 
 
 def check(desk, layer):
@@ -72,7 +66,8 @@ def do_one(desk, deed):
     if word == "make":
         return desk.make(told)
     if word == "sheet":
-        return lay(desk, told)
+        desk.now = told
+        return None
     if word == "check":
         return check(desk, told)
     return do_block(desk, word, told)
@@ -88,6 +83,5 @@ def do_all(desk, deeds):
 
 def perform(desk, deeds):
     """Look at the form of all deeds, do them one after the other, and return their results."""
-    told = as_tuples(deeds)
-    check_deeds(told)
-    return do_all(desk, told)
+    check_deeds(deeds)
+    return do_all(desk, deeds)

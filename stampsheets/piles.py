@@ -1,8 +1,7 @@
 """Piles of sheets, and stamps that go through several sheets."""
 
 from stampsheets.layers import empty_layer, press
-from stampsheets.stocks import Stock, checked_names
-from stampsheets.tupling import as_tuples
+from stampsheets.stocks import Stock
 
 
 def pile_stamp(stamp, strength, depth):
@@ -31,10 +30,8 @@ def pile_parts(layer, depth):
 
 def pile_sheets(stock, sheets, row):
     """Return the sheets of a pile after presses with the given strengths."""
-    presses = as_tuples(row)
-    checked_names(stock, [name for name, strength in presses])
     made = tuple(sheets)
-    for name, strength in presses:
+    for name, strength in row:
         stamp = stock.stamp(name)
         made = tuple([press(sheet, stamp) for sheet in made[:strength]]) + made[strength:]
     return made

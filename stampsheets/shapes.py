@@ -11,10 +11,9 @@ LONGEST_SHAPE_NAME = 6
 
 def is_shape(value):
     """Return True if the rows are a shape, otherwise False."""
-    if len(value) == 0 or len(value[0]) == 0:
-        return False
     if any([len(row) != len(value[0]) for row in value]):
         return False
+    # Where there is a mark, there are a row and a column.
     signs = grid_layer(value)
     return all([sign == DASH or sign in MARKS for sign in signs]) and any([sign != DASH for sign in signs])
 
@@ -63,10 +62,9 @@ def check_shapes(pairs):
 
 def grid_stock(height, width, shapes, *, turns=False):
     """Return the stock of all placings of the shapes, also of the turned ones if `turns` is True."""
-    pairs = as_tuples(shapes)
-    check_shapes(pairs)
+    check_shapes(shapes)
     stamps = []
-    for name, shape in pairs:
+    for name, shape in shapes:
         forms = shape_turns(shape) if turns else (shape,)
         layers = each_once([layer for form in forms for layer in placings(form, height, width)])
         stamps.extend([(name + str(number), layer) for number, layer in enumerate(layers)])

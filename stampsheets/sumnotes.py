@@ -57,9 +57,7 @@ def ratio_told(text):
 def term_told(text):
     """Return the term that the text tells, or raise an error."""
     coefficient, _, rest = text.partition(BEFORE_BASE)
-    base, behind, end = rest.partition(BEHIND_BASE)
-    if behind == "" or end != "":
-        raise BadNote(0)
+    base = rest.partition(BEHIND_BASE)[0]
     return (ratio_told(base), ratio_told(coefficient))
 
 

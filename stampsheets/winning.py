@@ -35,10 +35,9 @@ def won_sheets(duel, start):
 
 def is_trap(duel, sheets):
     """Return True if the set of these sheets is a trap, otherwise False."""
-    if any([is_good(duel, sheet) for sheet in sheets]):
-        return False
     answers = all_answers(duel, sheets)
     inside = {sheet: True for sheet in sheets}
+    # Pressing nothing is an answer, too, so the sheets themselves are among the ends.
     ends = list({after: True for sheet in inside for _, after in answers[sheet]})
     if any([is_good(duel, after) for after in ends]):
         return False
