@@ -90,7 +90,9 @@ class PlainDuel:
 def single_stamps(random, size, names, signs):
     """Return stamps that cover one cell each."""
     cells = [random.randrange(size) for _ in names]
-    return tuple((name, "-" * cell + random.choice(signs) + "-" * (size - cell - 1)) for name, cell in zip(names, cells))
+    return tuple(
+        (name, "-" * cell + random.choice(signs) + "-" * (size - cell - 1)) for name, cell in zip(names, cells)
+    )
 
 
 def random_duel(seed, size=SIZE):

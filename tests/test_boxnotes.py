@@ -68,13 +68,18 @@ class BoxNotesTest(unittest.TestCase):
 
     def test_one_fault_each(self):
         for text, line in [
-            ("", 0), ("\n", 0), ("pair ab ab", 0), ("stock 31", 0), ("stock 02", 0), (TEXT + "\n", 6), (TEXT + "\nx a-", 6),
-            ("stock 2\n", 1), ("stock 2\npair", 1), ("stock 2\npair ", 1), ("stock 2\npair a", 1), ("stock 2\npair --", 1),
-            ("stock 2\npair ab abc", 1), ("stock 2\npair abc ab", 1), ("stock 2\npair ab  ab", 1), ("stock 2\npair  ab", 1),
-            ("stock 2\npair ab ", 1), ("stock 2\npair ab ab ", 1), ("stock 2\n pair ab ab", 1), ("stock 2\npair ab ab ab", 1),
-            ("stock 2\nPair ab ab", 1), ("stock 2\npair ab aB", 1), ("stock 2\npairs ab ab", 1), ("stock 2\nx ab ab", 1),
+            ("", 0), ("\n", 0), ("pair ab ab", 0), ("stock 31", 0), ("stock 02", 0), (TEXT + "\n", 6),
+            (TEXT + "\nx a-", 6), ("stock 2\n", 1), ("stock 2\npair", 1), ("stock 2\npair ", 1), ("stock 2\npair a", 1),
+            ("stock 2\npair --", 1),
+            ("stock 2\npair ab abc", 1), ("stock 2\npair abc ab", 1), ("stock 2\npair ab  ab", 1),
+            ("stock 2\npair  ab", 1),
+            ("stock 2\npair ab ", 1), ("stock 2\npair ab ab ", 1), ("stock 2\n pair ab ab", 1),
+            ("stock 2\npair ab ab ab", 1),
+            ("stock 2\nPair ab ab", 1), ("stock 2\npair ab aB", 1), ("stock 2\npairs ab ab", 1),
+            ("stock 2\nx ab ab", 1),
             ("stock 2\npair ab ab\n", 2), ("stock 2\npair ab ab\n\npair ab ab", 2), ("stock 2\npair ab\npair ab", 2),
-            ("stock 2\npair ab\npair ab ab\npair", 3), ("stock 2\npair ab\npair ab ab\nlook ab", 3), ("pair a b\nstock 1", 0),
+            ("stock 2\npair ab\npair ab ab\npair", 3), ("stock 2\npair ab\npair ab ab\nlook ab", 3),
+            ("pair a b\nstock 1", 0),
         ]:
             self.assertEqual(first_bad_line(text), line, repr(text))
             self.assertEqual(fault(parse_box, text), (BadNote, line), repr(text))

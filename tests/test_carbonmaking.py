@@ -27,7 +27,8 @@ class CarbonMakingTest(unittest.TestCase):
 
     def test_no_pairs_and_pairs_in_any_order(self):
         self.assertEqual(carbon_making(STOCK, "..", "ab", ()).row, ("y", "x"))
-        one, two = carbon_making(STOCK, "..", "a-", ALL), carbon_making(STOCK, "..", "a-", [list(p) for p in ALL[::-1] * 2])
+        one = carbon_making(STOCK, "..", "a-", ALL)
+        two = carbon_making(STOCK, "..", "a-", [list(pair) for pair in ALL[::-1] * 2])
         self.assertEqual((one.made, one.row), (two.made, two.row))
         self.assertIs(carbon_making(Stock(1, ()), "a", "b", ()).made, False)
         self.assertIs(carbon_making(Stock(1, ()), "a", "a", ()).made, True)

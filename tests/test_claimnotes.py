@@ -36,9 +36,11 @@ class ClaimNotesTest(unittest.TestCase):
         for text, atom in [
             ("used x 2", ("used", "x", 2)), ("rest x 3 1", ("rest", "x", 3, 1)), ("over x y", ("over", "x", "y")),
             ("ahead x y", ("ahead", "x", "y")), ("next x y", ("next", "x", "y")), ("next x x", ("next", "x", "x")),
-            ("ends x", ("ends", "x")), ("begins x", ("begins", "x")), ("top 3 x", ("top", 3, "x")), ("bare 3", ("top", 3, None)),
+            ("ends x", ("ends", "x")), ("begins x", ("begins", "x")), ("top 3 x", ("top", 3, "x")),
+            ("bare 3", ("top", 3, None)),
             ("top 11 bare", ("top", 11, "bare")), ("bare 10", ("top", 10, None)), ("top 0 used", ("top", 0, "used")),
-            ("used used 1", ("used", "used", 1)), ("over bare used", ("over", "bare", "used")), ("rest used 2 0", ("rest", "used", 2, 0)),
+            ("used used 1", ("used", "used", 1)), ("over bare used", ("over", "bare", "used")),
+            ("rest used 2 0", ("rest", "used", 2, 0)),
         ]:
             claim = Claim.of(STOCK, atom)
             self.assertEqual(format_claim(claim), text)
@@ -87,17 +89,23 @@ class ClaimNotesTest(unittest.TestCase):
 
     def test_one_fault_each(self):
         for text in [
-            "", " ", "x", "ends", "ends ", "ends  x", " ends x", "ends x ", "ends q", "ends x y", "Ends x", "ends X", "ends 1",
-            "used x", "used x 0", "used x 4", "used x 02", "used x +2", "used x -1", "used x 2 ", "used x two", "used 2 x",
-            "used x 1 1", "used q 2", "rest x 1 0", "rest x 5 1", "rest x 3 3", "rest x 3", "rest x 3 -1", "rest x 03 1",
-            "rest x 3 01", "over x x", "ahead y y", "over x", "over x q", "next x", "next x y x", "begins", "top x 3", "top 12 x",
-            "top -1 x", "top 03 x", "top 3", "top 3 None", "top 3 q", "bare 12", "bare -1", "bare 03", "bare x", "bare", "bare 3 x",
-            "(ends x)", "(ends x & ends y", "ends x & ends y", "(ends x & ends y))", "((ends x & ends y)", "((ends x & ends y))",
+            "", " ", "x", "ends", "ends ", "ends  x", " ends x", "ends x ", "ends q", "ends x y", "Ends x", "ends X",
+            "ends 1",
+            "used x", "used x 0", "used x 4", "used x 02", "used x +2", "used x -1", "used x 2 ", "used x two",
+            "used 2 x", "used x 1 1", "used q 2", "rest x 1 0", "rest x 5 1", "rest x 3 3", "rest x 3", "rest x 3 -1",
+            "rest x 03 1",
+            "rest x 3 01", "over x x", "ahead y y", "over x", "over x q", "next x", "next x y x", "begins", "top x 3",
+            "top 12 x",
+            "top -1 x", "top 03 x", "top 3", "top 3 None", "top 3 q", "bare 12", "bare -1", "bare 03", "bare x",
+            "bare", "bare 3 x",
+            "(ends x)", "(ends x & ends y", "ends x & ends y", "(ends x & ends y))", "((ends x & ends y)",
+            "((ends x & ends y))",
             "(ends x&ends y)", "(ends x &  ends y)", "(ends x  & ends y)", "( ends x & ends y)", "(ends x & ends y )",
-            "(ends x & ends y & ends x)", "(ends x and ends y)", "(ends x && ends y)", "(ends x & )", "( & ends y)", "()", "(", ")",
+            "(ends x & ends y & ends x)", "(ends x and ends y)", "(ends x && ends y)", "(ends x & )", "( & ends y)",
+            "()", "(", ")",
             "~", "~ ends x", "~(ends x)", "ends x~", "ends ~x", "ends x\n", "\nends x", "ends\nx", "(ends x\n& ends y)",
-            "(ends x | ends q)", "(ends x | used y 4)", "ends x)", "ends x & ", "not ends x", "(ends x , ends y)", "atom ends x",
-            "(ends x | ends y)(ends x | ends y)", "ends(x)", "used x 2000000000000",
+            "(ends x | ends q)", "(ends x | used y 4)", "ends x)", "ends x & ", "not ends x", "(ends x , ends y)",
+            "atom ends x", "(ends x | ends y)(ends x | ends y)", "ends(x)", "used x 2000000000000",
         ]:
             self.assertEqual(fault(parse_claim, STOCK, text), (BadClaimText,), repr(text))
 

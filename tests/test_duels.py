@@ -34,8 +34,8 @@ class DuelTest(unittest.TestCase):
 
     def test_bad_wishes(self):
         for wishes, index in [
-            (("ab-", "ab"), 1), (("ab--",), 0), (("",), 0), (("aB-",), 0), (("a b",), 0), (("---", "---", "a\nb", "q"), 2),
-            (("---", "---", "---", "any string"), 3),
+            (("ab-", "ab"), 1), (("ab--",), 0), (("",), 0), (("aB-",), 0), (("a b",), 0),
+            (("---", "---", "a\nb", "q"), 2), (("---", "---", "---", "any string"), 3),
         ]:
             with self.assertRaises(BadWish) as caught:
                 Duel(MINE, FOES, wishes, None)
@@ -45,7 +45,8 @@ class DuelTest(unittest.TestCase):
         duel = Duel(MINE, FOES, ("ab-", "---"), 2)
         self.assertIs(duel == Duel(Stock(3, list(MINE)), FOES, ["ab-", "---"], 2), True)
         for other in [
-            Duel(FOES, FOES, ("ab-", "---"), 2), Duel(MINE, MINE, ("ab-", "---"), 2), Duel(MINE, FOES, ("---", "ab-"), 2),
+            Duel(FOES, FOES, ("ab-", "---"), 2), Duel(MINE, MINE, ("ab-", "---"), 2),
+            Duel(MINE, FOES, ("---", "ab-"), 2),
             Duel(MINE, FOES, ("ab-",), 2), Duel(MINE, FOES, ("ab-", "---"), 1), Duel(MINE, FOES, ("ab-", "---"), None),
         ]:
             self.assertIs(duel == other, False)

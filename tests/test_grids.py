@@ -30,7 +30,8 @@ class GridsTest(unittest.TestCase):
 
     def test_every_cell(self):
         signs = ".abcdefghijklmnopqrstuvwxyz---"
-        for height, width in [(1, 1), (1, 5), (5, 1), (2, 3), (3, 2), (5, 6), (6, 5), (3, 10), (30, 1), (1, 30), (4, 4)]:
+        sizes = [(1, 1), (1, 5), (5, 1), (2, 3), (3, 2), (5, 6), (6, 5), (3, 10), (30, 1), (1, 30), (4, 4)]
+        for height, width in sizes:
             layer = signs[:height * width]
             self.assertEqual(grid_layer(grid_rows(layer, width)), layer)
             turned_one, mirrored_one = turned(layer, width), mirrored(layer, width)

@@ -30,7 +30,8 @@ class IsInkStampTest(unittest.TestCase):
 
     def test_wrong_items(self):
         for item in [
-            ("set", 8), ("set", -1), ("set", True), ("set", False), ("set", None), ("set", "3"), ("set", (3,)), ("set",),
+            ("set", 8), ("set", -1), ("set", True), ("set", False), ("set", None), ("set", "3"), ("set", (3,)),
+            ("set",),
             ("set", 1, 2), (), [], ("Set", 1), ("", 1), ("dip", 1), 3, 0, True, "set", "a", "", {"set": 3}, object(),
             ("add", [1]), ["bleach", 9],
         ]:

@@ -27,8 +27,8 @@ class PerformTest(unittest.TestCase):
 
     def test_every_form(self):
         self.assertEqual(perform(self.desk, [
-            ("press", "x"), ["press", "y"], ("show",), ("undo",), ("make", "ab-"), ("check", "ab-"), ("back", 1), ("show",),
-            ("sheet", "qqq"), ["show"], ("trial", [("press", "z"), ("show",)]), ("batch", (("press", "z"),)),
+            ("press", "x"), ["press", "y"], ("show",), ("undo",), ("make", "ab-"), ("check", "ab-"), ("back", 1),
+            ("show",), ("sheet", "qqq"), ["show"], ("trial", [("press", "z"), ("show",)]), ("batch", (("press", "z"),)),
             ("attempt", [("press", "x"), ["undo"]]), ("show",),
         ]), (
             "aa.", "ab.", ("ab.", ("x", "y")), "y", ("y",), True, "aa.", ("aa.", ("x",)),
@@ -108,8 +108,8 @@ class PerformTest(unittest.TestCase):
         for deed in [
             (), ("jump",), ("",), ("press",), ("press", "x", "y"), ("undo", "x"), ("undo", 1), ("show", ()), ("back",),
             ("back", 1, 2), ("make",), ("make", "a--", "a--"), ("sheet",), ("sheet", "...", "..."), ("check",),
-            ("check", "...", 1), ("trial",), ("trial", (), ()), ("batch",), ("attempt",), ("attempt", (), ()), ("Press", "x"),
-            ("make ", "a--"), ("jump", (("press", "x"),)),
+            ("check", "...", 1), ("trial",), ("trial", (), ()), ("batch",), ("attempt",), ("attempt", (), ()),
+            ("Press", "x"), ("make ", "a--"), ("jump", (("press", "x"),)),
         ]:
             for at_this_depth in (lambda d: d, lambda d: ("trial", (d,)), lambda d: ("batch", (("attempt", (d,)),))):
                 self.fails([("press", "x"), at_this_depth(deed), ("hop",)], BadDeed, "deed", deed)
@@ -200,6 +200,7 @@ def random_deeds(random, depth):
             deeds.append([
                 ("press", random.choice("xyz")), ("press", random.choice("xyz")), ("press", random.choice("xyzzyxxyq")),
                 ("undo",), ("back", random.randrange(3)), ("make", random.choice(["ab-", "--c", "a-.", "---"])),
-                ("sheet", random.choice(["zzz", "...", "no"])), ("show",), ("check", random.choice(["---", "-b-", "a--"])),
+                ("sheet", random.choice(["zzz", "...", "no"])), ("show",),
+                ("check", random.choice(["---", "-b-", "a--"])),
             ][kind])
     return deeds

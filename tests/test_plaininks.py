@@ -26,8 +26,8 @@ class PlainInksTest(unittest.TestCase):
 
     def test_layers_that_are_no_readings(self):
         for layer in [
-            "a", "-", "..", "....", "a..-", "-----", "b..", "..z", "---..b", "a.-", "-a.", "--.", ".--", "---a--", "-.-",
-            "aaa.-.", "...---.a",
+            "a", "-", "..", "....", "a..-", "-----", "b..", "..z", "---..b", "a.-", "-a.", "--.", ".--", "---a--",
+            "-.-", "aaa.-.", "...---.a",
         ]:
             self.assertIsNone(ink_reading(layer), layer)
 

@@ -18,8 +18,8 @@ class IsShapeTest(unittest.TestCase):
 
     def test_wrong(self):
         for value in [
-            (), [], [""], ["", ""], ["-"], ["---", "---"], ["ab", "a"], ["a", "ab"], ["a", ""], ["", "a"], ["A"], ["a b"],
-            ["a\n"], ["ab", "a_"], ["a1"], ["ab", "cd", "efg"], ["%"],
+            (), [], [""], ["", ""], ["-"], ["---", "---"], ["ab", "a"], ["a", "ab"], ["a", ""], ["", "a"], ["A"],
+            ["a b"], ["a\n"], ["ab", "a_"], ["a1"], ["ab", "cd", "efg"], ["%"],
         ]:
             self.assertIs(is_shape(value), False, value)
 
@@ -57,7 +57,8 @@ class PlacedTest(unittest.TestCase):
 
     def shape(self, random):
         width = random.randrange(1, 4)
-        return tuple("a" + "".join(random.choice("-ab") for _ in range(width - 1)) for _ in range(random.randrange(1, 4)))
+        height = random.randrange(1, 4)
+        return tuple("a" + "".join(random.choice("-ab") for _ in range(width - 1)) for _ in range(height))
 
 
 class PlacingsTest(unittest.TestCase):
@@ -125,7 +126,8 @@ class GridStockTest(unittest.TestCase):
 
     def test_shapes_that_do_not_fit(self):
         self.assertEqual(grid_stock(1, 2, [("x", ["abc"]), ("y", ["a"])]), Stock(2, [("y0", "a-"), ("y1", "-a")]))
-        self.assertEqual(grid_stock(1, 3, [("x", ["a", "b", "c"])], turns=True), Stock(3, [("x0", "cba"), ("x1", "abc")]))
+        self.assertEqual(grid_stock(1, 3, [("x", ["a", "b", "c"])], turns=True),
+                         Stock(3, [("x0", "cba"), ("x1", "abc")]))
 
     def test_many_placings(self):
         stock = grid_stock(4, 6, [("sixsix", ["a"])])

@@ -48,10 +48,13 @@ class StockNotesTest(unittest.TestCase):
 
     def test_one_fault_each(self):
         for text, line in [
-            ("", 0), ("\n", 0), ("stock", 0), ("stock ", 0), ("stock 0", 0), ("stock 31", 0), ("stock 03", 0), ("stock 3 ", 0),
-            (" stock 3", 0), ("stock  3", 0), ("Stock 3", 0), ("stock 3.", 0), ("stock -3", 0), ("stock +3", 0), ("x a-.", 0),
+            ("", 0), ("\n", 0), ("stock", 0), ("stock ", 0), ("stock 0", 0), ("stock 31", 0), ("stock 03", 0),
+            ("stock 3 ", 0),
+            (" stock 3", 0), ("stock  3", 0), ("Stock 3", 0), ("stock 3.", 0), ("stock -3", 0), ("stock +3", 0),
+            ("x a-.", 0),
             ("stock three", 0), ("stock 3\n", 1), ("stock 3\n\nx a-.", 1), (TEXT + "\n", 4), (TEXT + "\n\n", 4),
-            ("stock 3\nx a-", 1), ("stock 3\nx a-..", 1), ("stock 3\nx ---", 1), ("stock 3\nx  a-.", 1), ("stock 3\nx a-. ", 1),
+            ("stock 3\nx a-", 1), ("stock 3\nx a-..", 1), ("stock 3\nx ---", 1), ("stock 3\nx  a-.", 1),
+            ("stock 3\nx a-. ", 1),
             ("stock 3\n x a-.", 1), ("stock 3\nx", 1), ("stock 3\nx ", 1), ("stock 3\n a-.", 1), ("stock 3\nX a-.", 1),
             ("stock 3\nx A-.", 1), ("stock 3\nninechars a-.", 1), ("stock 3\n1x a-.", 1), ("stock 3\nx a-. y", 1),
             ("stock 3\nx a-.\nx a-.", 2), ("stock 3\nx a-.\ny abc\nx --b\n", 3), ("stock 3\nx a-.\nstock 3", 2),

@@ -37,7 +37,8 @@ class RowNotesTest(unittest.TestCase):
 
     def test_unknown_names(self):
         for text, name in [
-            ("q", "q"), ("x q p", "q"), ("x\ny", "x\ny"), ("\n", "\n"), ("x y\n", "y\n"), ("X", "X"), ("x,y", "x,y"), ("xy", "xy"),
+            ("q", "q"), ("x q p", "q"), ("x\ny", "x\ny"), ("\n", "\n"), ("x y\n", "y\n"), ("X", "X"), ("x,y", "x,y"),
+            ("xy", "xy"),
         ]:
             self.assertEqual(fault(parse_row, STOCK, text), (UnknownName, name), repr(text))
         self.assertEqual(fault(parse_row, Stock(1, ()), "x"), (UnknownName, "x"))
@@ -64,16 +65,23 @@ class SumNotesTest(unittest.TestCase):
 
     def test_one_fault_each(self):
         for text in [
-            "", " ", "0 ", " 0", "00", "-0", "1", "-1", "n", "0\n", "1 * (2)", "1 * (2) ** m", "1 * 2 ** n", "(2) ** n", "1 * (2) ** n ",
-            " 1 * (2) ** n", "1 * (2) ** n\n", "1*(2) ** n", "1 *(2) ** n", "1 * (2)** n", "1 * (2) **n", "1  * (2) ** n", "+1 * (2) ** n",
-            "01 * (2) ** n", "1 * (02) ** n", "0 * (2) ** n", "-0 * (2) ** n", "1 * (-0) ** n", "2/4 * (2) ** n", "1/1 * (2) ** n",
-            "1 * (2/1) ** n", "1 * (4/2) ** n", "1/0 * (2) ** n", "0/1 * (2) ** n", "0/0 * (2) ** n", "1/-2 * (2) ** n", "-1/-2 * (2) ** n",
-            "1/02 * (2) ** n", "--1 * (2) ** n", "1/ * (2) ** n", "/2 * (2) ** n", "1/2/3 * (2) ** n", "1 /2 * (2) ** n", "- 1 * (2) ** n",
+            "", " ", "0 ", " 0", "00", "-0", "1", "-1", "n", "0\n", "1 * (2)", "1 * (2) ** m", "1 * 2 ** n",
+            "(2) ** n", "1 * (2) ** n ",
+            " 1 * (2) ** n", "1 * (2) ** n\n", "1*(2) ** n", "1 *(2) ** n", "1 * (2)** n", "1 * (2) **n",
+            "1  * (2) ** n", "+1 * (2) ** n",
+            "01 * (2) ** n", "1 * (02) ** n", "0 * (2) ** n", "-0 * (2) ** n", "1 * (-0) ** n", "2/4 * (2) ** n",
+            "1/1 * (2) ** n", "1 * (2/1) ** n", "1 * (4/2) ** n", "1/0 * (2) ** n", "0/1 * (2) ** n", "0/0 * (2) ** n",
+            "1/-2 * (2) ** n", "-1/-2 * (2) ** n",
+            "1/02 * (2) ** n", "--1 * (2) ** n", "1/ * (2) ** n", "/2 * (2) ** n", "1/2/3 * (2) ** n",
+            "1 /2 * (2) ** n", "- 1 * (2) ** n",
             "1.5 * (2) ** n", "1 * (-1/2) ** n + ", "1 * (2) ** n + 1 * (2) ** n", "1 * (2) ** n + 1 * (1) ** n",
             "1 * (1/2) ** n + 1 * (1/3) ** n", "1 * (2) ** n + 0", "0 + 1 * (2) ** n", "1 * (2) ** n +1 * (3) ** n",
-            "1 * (2) ** n  + 1 * (3) ** n", "1 * (2) ** n - 1 * (3) ** n", " + 1 * (2) ** n", "1 * (2) ** n1 * (3) ** n", " * () ** n",
-            "1 * () ** n", "1 * ((2)) ** n", "1 * (2)) ** n", "1 * (2) ** n) ** n", "1 * (1 * (2) ** n", "1_0 * (2) ** n", "1 * (1_0) ** n",
-            "a * (2) ** n", "1 * (2) ** n + 1 * (3) ** n + 1 * (3) ** n", "1e2 * (2) ** n", "1 * (+2) ** n", "1 * ( 2) ** n",
+            "1 * (2) ** n  + 1 * (3) ** n", "1 * (2) ** n - 1 * (3) ** n", " + 1 * (2) ** n",
+            "1 * (2) ** n1 * (3) ** n", " * () ** n",
+            "1 * () ** n", "1 * ((2)) ** n", "1 * (2)) ** n", "1 * (2) ** n) ** n", "1 * (1 * (2) ** n",
+            "1_0 * (2) ** n", "1 * (1_0) ** n",
+            "a * (2) ** n", "1 * (2) ** n + 1 * (3) ** n + 1 * (3) ** n", "1e2 * (2) ** n", "1 * (+2) ** n",
+            "1 * ( 2) ** n",
         ]:
             self.assertEqual(fault(parse_power_sum, text), (BadNote, 0), repr(text))
 
@@ -83,7 +91,8 @@ class SumNotesTest(unittest.TestCase):
             random = Random(seed)
             terms = []
             for _ in range(random.randrange(4)):
-                terms.append(tuple(pair_of(Fraction(random.randrange(-3, 4), random.randrange(1, 4))) for _ in range(2)))
+                numbers = [Fraction(random.randrange(-3, 4), random.randrange(1, 4)) for _ in range(2)]
+                terms.append(tuple(pair_of(number) for number in numbers))
             total = PowerSum(terms)
             text = format_power_sum(total)
             self.assertEqual(parse_power_sum(text), total)

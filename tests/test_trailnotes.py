@@ -12,7 +12,8 @@ from tests.notecases import fault, random_stock
 from tests.plain import random_layer
 
 STOCK = Stock(2, [("x", "a-"), ("rows", "-b"), ("look", "ab"), ("press", "..")])
-STEPS = [("look", "a-"), ("rows", ()), ("press", ("x", "press")), ("rows", ("rows", "look")), ("press", ()), ("look", "--")]
+STEPS = [("look", "a-"), ("rows", ()), ("press", ("x", "press")), ("rows", ("rows", "look")), ("press", ()),
+         ("look", "--")]
 TEXT = "look a-\nrows\npress x press\nrows rows look\npress\nlook --"
 
 
@@ -55,8 +56,10 @@ class TrailNotesTest(unittest.TestCase):
 
     def test_one_fault_each(self):
         for text, line in [
-            ("\n", 0), (" ", 0), ("look", 0), ("look ", 0), ("look a", 0), ("look abc", 0), ("look  ab", 0), ("look ab ", 0),
-            (" look ab", 0), ("look a b", 0), ("look aB", 0), ("look x x", 0), ("Look ab", 0), ("rows ", 0), ("rows  x", 0),
+            ("\n", 0), (" ", 0), ("look", 0), ("look ", 0), ("look a", 0), ("look abc", 0), ("look  ab", 0),
+            ("look ab ", 0),
+            (" look ab", 0), ("look a b", 0), ("look aB", 0), ("look x x", 0), ("Look ab", 0), ("rows ", 0),
+            ("rows  x", 0),
             ("rows x ", 0), ("rows x  press", 0), (" rows", 0), ("rows q", 0), ("rows x q", 0), ("rows x x", 0),
             ("rows rows x", 0), ("press look rows", 0), ("presses x", 0), ("press\tx", 0), ("ab", 0), ("stock 2", 0),
             ("rows\n", 1), ("rows\n\nrows", 1), (TEXT + "\n", 6), (TEXT + "\nlook x", 6), ("look ab\npress x,rows", 1),

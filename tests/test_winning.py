@@ -17,7 +17,8 @@ class WonSheetsTest(unittest.TestCase):
     def test_ordinary(self):
         duel = Duel(MINE, FOES, ("aa",), 1)
         self.assertEqual(won_sheets(duel, ".."), (
-            ("..", 2, ("y",)), (".a", 1, ("x",)), ("a.", 1, ("y",)), ("aa", 0, ()), ("c.", 2, ("y",)), ("ca", 1, ("x",)),
+            ("..", 2, ("y",)), (".a", 1, ("x",)), ("a.", 1, ("y",)), ("aa", 0, ()), ("c.", 2, ("y",)),
+            ("ca", 1, ("x",)),
         ))
         self.assertEqual(won_sheets(start="ca", duel=duel), (("aa", 0, ()), ("ca", 1, ("x",))))
 
