@@ -8,7 +8,7 @@ from stampsheets.topsets import name_sets
 
 
 def carbon_making(stock, start, seen, pairs):
-    """Return the `Making` of the carbon stock for `start`, and `seen` with these pairs of the carbon."""
+    """Return the `Making` for rows from `start` to `seen` whose carbon shows exactly these pairs."""
     return making(carbon_stock(stock), carbon_layer(stock, start, ()), carbon_layer(stock, seen, pairs))
 
 

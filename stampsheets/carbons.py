@@ -1,6 +1,6 @@
 """Carbons, which keep for every cell all marks that were ever pressed there."""
 
-from stampsheets.layers import DASH, MARKS
+from stampsheets.layers import DASH, DOT, MARKS
 from stampsheets.stocks import Stock
 from stampsheets.tupling import as_tuples
 
@@ -39,5 +39,6 @@ def carbon_stock(stock):
 
 
 def carbon_layer(stock, layer, pairs):
-    """Return the layer of the sheet and of a carbon with these pairs."""
-    return layer + carbon_signs(stock, as_tuples(pairs), DASH)
+    """Return the layer of the sheet and of a carbon with exactly these pairs."""
+    # A dash would leave open whether the carbon has the pair; the dot says that it has not.
+    return layer + carbon_signs(stock, as_tuples(pairs), DOT)

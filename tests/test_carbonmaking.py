@@ -18,15 +18,20 @@ class CarbonMakingTest(unittest.TestCase):
         found = carbon_making(STOCK, "..", "ab", ((0, "a"), (1, "b")))
         self.assertEqual((found.made, found.row, found.cells, found.cell), (True, ("y", "x"), (), None))
         found = carbon_making(STOCK, "..", "ab", [(0, "c")])
-        self.assertEqual((found.made, found.row), (True, ("z", "y", "x")))
+        self.assertEqual((found.made, found.row, found.cells, found.cell), (False, None, (0, 1, 2, 3, 4), 0))
+        found = carbon_making(STOCK, "..", "a-", [(0, "c"), (0, "a")])
+        self.assertEqual((found.made, found.row, found.cells, found.cell), (True, ("z", "x"), (), None))
         found = carbon_making(pairs=ALL, seen="bb", start="..", stock=STOCK)
         self.assertEqual((found.made, found.row, found.cells, found.cell), (False, None, (0, 2, 3), 0))
-        # A dash of the carbon layers leaves open whether the carbon has the pair.
+        # The sheet alone could be made; that the carbon shows the pair could not.
         found = carbon_making(STOCK, "..", "..", ((0, "a"),))
-        self.assertEqual((found.made, found.row, found.cells, found.cell), (True, (), (), None))
+        self.assertEqual((found.made, found.row, found.cells, found.cell), (False, None, (0, 1, 2, 3, 4), 2))
 
     def test_no_pairs_and_pairs_in_any_order(self):
-        self.assertEqual(carbon_making(STOCK, "..", "ab", ()).row, ("y", "x"))
+        found = carbon_making(STOCK, "..", "ab", ())
+        self.assertEqual((found.made, found.row, found.cells, found.cell), (False, None, (0, 1, 2, 3, 4), 0))
+        found = carbon_making(STOCK, "ab", "ab", ())
+        self.assertEqual((found.made, found.row, found.cells, found.cell), (True, (), (), None))
         one = carbon_making(STOCK, "..", "a-", ALL)
         two = carbon_making(STOCK, "..", "a-", [list(pair) for pair in ALL[::-1] * 2])
         self.assertEqual((one.made, one.row), (two.made, two.row))
@@ -51,6 +56,30 @@ class CarbonMakingTest(unittest.TestCase):
             self.assertIs(found.made, len(rows) > 0)
             if found.made:
                 self.assertIn(found.row, rows)
+
+    def test_the_carbon_shows_exactly_these_pairs(self):
+        made = refused = 0
+        for seed in range(80):
+            random = Random(seed)
+            pairs = random_pairs(seed, 2, random.randrange(0, 4))
+            stock = Stock(2, pairs)
+            start, seen = random_layer(random, 2, "--.z"), random_layer(random, 2, "-ab.")
+            # Each stamp is peeled off at most once.
+            rows = leading_rows(pairs, start, seen, len(pairs))
+            shown = {pressed_pairs(stock, row) for row in rows}
+            sets = carbon_sets(stock, start, seen)
+            for chosen in all_subsets(carbon_pairs(stock)):
+                found = carbon_making(stock, start, seen, chosen)
+                self.assertIs(found.made, chosen in shown)
+                self.assertIs(found.made, chosen in sets)
+                if found.made:
+                    made += 1
+                    self.assertIn(found.row, rows)
+                    self.assertEqual(pressed_pairs(stock, found.row), chosen)
+                elif rows:
+                    refused += 1
+        self.assertGreater(made, 80)
+        self.assertGreater(refused, 80)
 
 
 class CarbonSetsTest(unittest.TestCase):

@@ -6,7 +6,7 @@ from stampsheets.carbons import carbon_layer, carbon_pairs, carbon_stock, presse
 from stampsheets.errors import UnknownName
 from stampsheets.rows import pressed
 from stampsheets.stocks import Stock
-from tests.plain import random_pairs, rows_up_to
+from tests.plain import all_subsets, random_pairs, rows_up_to
 
 STOCK = Stock(2, [("x", "b-"), ("y", "ab"), ("z", "-b"), ("w", ".-")])
 ALL = ((0, "."), (0, "a"), (0, "b"), (1, "b"))
@@ -39,10 +39,17 @@ class CarbonsTest(unittest.TestCase):
         self.assertEqual(carbon_stock(full).stamps, (("x", "a" * 30),))
 
     def test_carbon_layer(self):
-        self.assertEqual(carbon_layer(STOCK, "a-", ()), "a-----")
+        self.assertEqual(carbon_layer(STOCK, "a-", ()), "a-....")
         self.assertEqual(carbon_layer(STOCK, "--", ALL), "--aaaa")
-        self.assertEqual(carbon_layer(pairs=[[1, "b"], (0, "."), [1, "b"]], layer=".b", stock=STOCK), ".ba--a")
+        self.assertEqual(carbon_layer(pairs=[[1, "b"], (0, "."), [1, "b"]], layer=".b", stock=STOCK), ".ba..a")
         self.assertEqual(carbon_layer(Stock(3, ()), "abc", ()), "abc")
+        self.assertEqual(carbon_layer(Stock(15, [("x", "a" * 15)]), "-" * 15, ()), "-" * 15 + "." * 15)
+
+    def test_each_pair_has_a_letter_or_a_dot(self):
+        for chosen in all_subsets(ALL):
+            signs = "".join("a" if pair in chosen else "." for pair in ALL)
+            for layer in ("--", "a-", ".b"):
+                self.assertEqual(carbon_layer(STOCK, layer, chosen), layer + signs)
 
     def test_the_carbon_shows_what_was_pressed(self):
         for seed in range(40):
@@ -51,6 +58,5 @@ class CarbonsTest(unittest.TestCase):
                 put = {(cell, mark) for name in row for cell, mark in enumerate(stock.stamp(name)) if mark != "-"}
                 in_order = tuple(sorted(put, key=lambda pair: (pair[0], ".abcdefghijklmnopqrstuvwxyz".index(pair[1]))))
                 self.assertEqual(pressed_pairs(stock, row), in_order)
-                many = len(carbon_pairs(stock))
-                made = pressed(carbon_stock(stock), ".." + "-" * many, row)
+                made = pressed(carbon_stock(stock), carbon_layer(stock, "..", ()), row)
                 self.assertEqual(made, carbon_layer(stock, pressed(stock, "..", row), pressed_pairs(stock, row)))
